@@ -1,0 +1,1 @@
+"""Everynext: charts in which each place has one next place."""

@@ -1,0 +1,130 @@
+"""Sample charts, wrong values, plain ways to reckon the same, and a runner for examples."""
+
+import itertools
+
+TEXT_OF_NINETY_DIGITS = "7" + "3018492756" * 8 + "501846273"
+NINETY_DIGITS = int(TEXT_OF_NINETY_DIGITS)
+
+ONE = (0,)
+EACH_ITS_OWN = tuple(range(10))
+ONE_RING = (1, 2, 3, 4, 5, 6, 7, 8, 9, 0)
+LONG_WAY = (0, 0, 1, 2, 3, 4, 5, 6, 7, 8)
+LONG_WAY_TO_TWO = (1, 2, 3, 4, 5, 6, 7, 8, 9, 8)
+STAR = (7,) * 10
+PERIOD_THIRTY = (1, 0, 3, 4, 2, 6, 7, 8, 9, 5)
+BUSHES = (3, 3, 3, 4, 5, 3, 5, 7, 7, 8)
+EAR = (1, 2, 1, 2)
+
+
+def all_charts(count):
+    return list(itertools.product(range(count), repeat=count))
+
+
+def mixed_chart(count, seed):
+    """A chart that looks thrown together, the same one at each call."""
+    told, state = [], seed
+    for _ in range(count):
+        state = (state * 1103515245 + 12345) % 2 ** 31
+        told.append((state >> 16) % count)
+    return tuple(told)
+
+
+SMALL_CHARTS = all_charts(1) + all_charts(2) + all_charts(3)
+LARGE_CHARTS = [
+    EACH_ITS_OWN, ONE_RING, LONG_WAY, LONG_WAY_TO_TWO, STAR, PERIOD_THIRTY, BUSHES, EAR,
+    (1, 0, 3, 2), (2, 0, 1, 4, 3), (1, 0, 0, 2, 5, 6, 4), (0, 0, 1, 1, 5, 4, 4),
+] + [mixed_chart(count, seed) for count in range(4, 11) for seed in (1, 2)]
+CHARTS = SMALL_CHARTS + LARGE_CHARTS
+
+
+def deep(value, levels=40):
+    for _ in range(levels):
+        value = (value,)
+    return value
+
+
+NOT_CHARTS = [
+    True, False, None, 0, 1, -1, NINETY_DIGITS, "", "0", "1212", [], [0], [1, 2, 1, 2], (),
+    (1,), (-1,), (0, 2), (0, -1), (3, 0, 0), (1, 2, 1, 4), (True,), (False,), (0, True), (False, 1),
+    (0, 1, 2, False), ("0",), ("1", "0"), (None,), (0, None), ((0,),), (0, (1,)), ([0],), (0, [1]), ((), ()),
+    (NINETY_DIGITS,), (-NINETY_DIGITS, 0), (0,) * 11, tuple(range(11)), (0,) * 3000, deep(0), deep(()), (0, deep(1)),
+]
+# Wrong as places of a chart of four places.
+NOT_PLACES = [
+    True, False, None, -1, -4, 4, 5, NINETY_DIGITS, -NINETY_DIGITS, "", "0", "1", (), (0,), [], [0], [1],
+    deep(0), deep(()), (0,) * 11,
+]
+# Wrong as rows of a chart of four places.
+NOT_ROWS = [
+    True, False, None, 0, -1, "", "0123", [], [0, 1, 2, 3], (), (0,), (0, 1, 2), (0, 1, 2, 3, 4), (0, 0, 1, 2),
+    (3, 3, 3, 3), (1, 2, 3, 4), (0, 1, 2, 4), (-1, 0, 1, 2), (False, True, 2, 3), (0, True, 2, 3), (False, 1, 2, 3),
+    (0, 1, 2, "3"), (0, 1, 2, None), (0, 1, 2, (3,)), (0, 1, 2, [3]), (0, 1, 2, NINETY_DIGITS), tuple(range(11)),
+    deep(0), deep((0, 1, 2, 3), 39),
+]
+NOT_NUMBERS = [
+    True, False, None, -1, -2, -NINETY_DIGITS, "", "0", "1", (), (0,), (1,), [], [1], deep(1), (0,) * 11,
+]
+NOT_STRINGS = [True, False, None, 0, 10, -1, (), ("0",), ("1", "0"), (1, 0), [], ["0"], [0], deep("0")]
+
+
+def walked(chart, place, number):
+    """Where a place comes, gone step by step; ten steps lead onto a ring, and 2520 lead once round each."""
+    if number > 10:
+        number = 10 + (number - 10) % 2520
+    for _ in range(number):
+        place = chart[place]
+    return place
+
+
+def plain_step(chart, number):
+    return tuple(walked(chart, place, number) for place in range(len(chart)))
+
+
+def is_plainly_on_ring(chart, place):
+    return any(walked(chart, place, number) == place for number in range(1, len(chart) + 1))
+
+
+def plain_depth(chart, place):
+    return [is_plainly_on_ring(chart, walked(chart, place, k)) for k in range(len(chart))].index(True)
+
+
+def plain_ring_of(chart, place):
+    """The places that the places far ahead come to and that are on a ring, begun with the least one."""
+    met = {walked(chart, place, number) for number in range(len(chart), 2 * len(chart))}
+    told = [min(met)]
+    while len(told) < len(met):
+        told.append(chart[told[-1]])
+    return tuple(told)
+
+
+def some_rows(count):
+    """All rows of up to three places, and some of more."""
+    straight = tuple(range(count))
+    if count < 4:
+        return list(itertools.permutations(straight))
+    turned = straight[1:] + straight[:1]
+    swapped = (1, 0) + straight[2:]
+    mixed = tuple(sorted(straight, key=lambda place: (place * 7 + 3) % 11))
+    return [straight, straight[::-1], turned, swapped, mixed]
+
+
+def state_of(error):
+    return error.__class__, vars(error)
+
+
+def run_examples(test, text, names):
+    """Runs examples as the document writes them: a row behind >>>, and what it gives or raises below."""
+    rows = text.strip().split("\n")
+    for index, row in enumerate(rows):
+        if not row.startswith(">>> "):
+            continue
+        code = row[4:]
+        wanted = rows[index + 1] if index + 1 < len(rows) else ">>> "
+        if wanted.startswith(">>> "):
+            exec(code, names)
+        elif wanted.startswith("raises "):
+            with test.assertRaises(ValueError, msg=code) as caught:
+                eval(code, names)
+            test.assertEqual(state_of(caught.exception), state_of(eval(wanted[7:], names)), code)
+        else:
+            test.assertEqual(repr(eval(code, names)), wanted, code)
