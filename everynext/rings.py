@@ -92,3 +92,13 @@ def first_repeat(chart, number):
     if number < height(chart):
         return None
     return number + period(chart)
+
+
+class Frame:
+    """The rings of a chart, the children of each place, and the places, the deepest ones first."""
+
+    def __init__(self, chart):
+        deep = depths(chart)
+        self.around = rings(chart)
+        self.under = [children(chart, place) for place in range(len(chart))]
+        self.order = [place for _, place in sorted([(-deep[place], place) for place in range(len(chart))])]

@@ -1,6 +1,8 @@
 """Sample charts, wrong values, plain ways to reckon the same, and a runner for examples."""
 
+import functools
 import itertools
+import time
 
 TEXT_OF_NINETY_DIGITS = "7" + "3018492756" * 8 + "501846273"
 NINETY_DIGITS = int(TEXT_OF_NINETY_DIGITS)
@@ -14,6 +16,9 @@ STAR = (7,) * 10
 PERIOD_THIRTY = (1, 0, 3, 4, 2, 6, 7, 8, 9, 5)
 BUSHES = (3, 3, 3, 4, 5, 3, 5, 7, 7, 8)
 EAR = (1, 2, 1, 2)
+THREE_ALIKE_RINGS = (1, 2, 0, 4, 5, 3, 7, 8, 6, 6)
+ALIKE_RINGS_ALIKE_TREES = (1, 0, 0, 1, 5, 4, 4, 5, 9, 8)
+LENGTHS_THAT_DIVIDE = (0, 2, 1, 4, 5, 6, 3, 8, 7, 8)
 
 
 def all_charts(count):
@@ -32,9 +37,14 @@ def mixed_chart(count, seed):
 SMALL_CHARTS = all_charts(1) + all_charts(2) + all_charts(3)
 LARGE_CHARTS = [
     EACH_ITS_OWN, ONE_RING, LONG_WAY, LONG_WAY_TO_TWO, STAR, PERIOD_THIRTY, BUSHES, EAR,
+    THREE_ALIKE_RINGS, ALIKE_RINGS_ALIKE_TREES, LENGTHS_THAT_DIVIDE, (1, 0, 3, 2, 5, 4, 7, 6, 9, 8),
     (1, 0, 3, 2), (2, 0, 1, 4, 3), (1, 0, 0, 2, 5, 6, 4), (0, 0, 1, 1, 5, 4, 4),
 ] + [mixed_chart(count, seed) for count in range(4, 11) for seed in (1, 2)]
 CHARTS = SMALL_CHARTS + LARGE_CHARTS
+# What the facts are looked at for: all charts of up to four places, and some of up to ten.
+CHARTS_OF_FOUR = all_charts(4)
+FACT_CHARTS = SMALL_CHARTS + CHARTS_OF_FOUR + LARGE_CHARTS
+CHARTS_OF_TEN = [chart for chart in LARGE_CHARTS if len(chart) == 10]
 
 
 def deep(value, levels=40):
@@ -64,7 +74,26 @@ NOT_ROWS = [
 NOT_NUMBERS = [
     True, False, None, -1, -2, -NINETY_DIGITS, "", "0", "1", (), (0,), (1,), [], [1], deep(1), (0,) * 11,
 ]
+# Wrong as lots of places of a chart of four places.
+NOT_LOTS = [
+    True, False, None, 0, -1, "", "01", [], [0, 1], (1, 0), (0, 0), (0, 1, 1), (0, 2, 1), (-1,), (-1, 0), (4,), (0, 4),
+    (0, 1, 2, 3, 4), (True,), (False, 1), (0, True), ("0",), (None,), (0, None), ((0,),), (0, (1,)), ([],),
+    (NINETY_DIGITS,), (0,) * 3000, tuple(range(11)), deep(()), deep((0,), 39),
+]
+# No chart codes: a part too few or too many, out of sequence, turned, deeper, of another kind, of eleven places.
+NOT_CODES = [
+    True, False, None, 0, 1, NINETY_DIGITS, "", "()", [], (), ((),), ((), ((),)), (((),), ()), ((((),), ()),),
+    (((((),), ()),),), (((), ((),)), ((),)), ((((),),), ((),)), (((((),),), ((),)),),
+    ([()],), [((),)], (([],),), ((((), []),),), ((((), 0),),), (((0,),),), (("",),), (((True,),),), (((None,),),),
+    (((),) * 11,), (((),),) * 11, (((),) * 10, ((),)), (((),),) + (((),) * 10,), ((((),) * 10,),), deep((), 13),
+    deep(()), (deep(()),), (((),) * 3000,), (((),),) * 1500,
+]
 NOT_STRINGS = [True, False, None, 0, 10, -1, (), ("0",), ("1", "0"), (1, 0), [], ["0"], [0], deep("0")]
+
+
+def not_within(most):
+    """Wrong as integers from 1 to most."""
+    return NOT_NUMBERS + [0, most + 1, most + 2, 10 * most, NINETY_DIGITS, str(most), (most,)]
 
 
 def walked(chart, place, number):
@@ -106,6 +135,61 @@ def some_rows(count):
     swapped = (1, 0) + straight[2:]
     mixed = tuple(sorted(straight, key=lambda place: (place * 7 + 3) % 11))
     return [straight, straight[::-1], turned, swapped, mixed]
+
+
+def leads(chart, other_chart, row):
+    return all(other_chart[row[place]] == row[chart[place]] for place in range(len(chart)))
+
+
+@functools.lru_cache(maxsize=None)
+def plain_rows(chart, other_chart):
+    """All rows that lead from the chart to the other one, each looked at."""
+    return tuple(row for row in itertools.permutations(range(len(chart))) if leads(chart, other_chart, row))
+
+
+@functools.lru_cache(maxsize=None)
+def plain_tree_code(chart, place):
+    children = [x for x in range(len(chart)) if chart[x] == place and not is_plainly_on_ring(chart, x)]
+    return tuple(sorted(plain_tree_code(chart, child) for child in children))
+
+
+def plain_piece_code(chart, place):
+    ring = plain_ring_of(chart, place)
+    turns = [ring[begin:] + ring[:begin] for begin in range(len(ring))]
+    return min(tuple(plain_tree_code(chart, ringed) for ringed in turn) for turn in turns)
+
+
+def plain_chart_code(chart):
+    rings = sorted({plain_ring_of(chart, place) for place in range(len(chart))})
+    return tuple(sorted(plain_piece_code(chart, ring[0]) for ring in rings))
+
+
+def plainly_renamed(chart, row):
+    return tuple(row[chart[row.index(place)]] for place in range(len(chart)))
+
+
+def all_lots(count):
+    """All lots of so many places, in lot order."""
+    return [lot for size in range(count + 1) for lot in itertools.combinations(range(count), size)]
+
+
+MOST_SECONDS = 5
+
+
+def told_in_time(test, function, *values):
+    """What the call returns; fails if it takes too long."""
+    begun = time.perf_counter()
+    try:
+        return function(*values)
+    finally:
+        test.assertLess(time.perf_counter() - begun, MOST_SECONDS, (function, values))
+
+
+def raised_by(test, function, *values):
+    """The class and the fields of the error that the call raises, which must be one of the package."""
+    with test.assertRaises(ValueError, msg=(function, values)) as caught:
+        function(*values)
+    return state_of(caught.exception)
 
 
 def state_of(error):

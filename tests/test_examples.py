@@ -3,8 +3,11 @@
 import unittest
 
 import everynext.charts
+import everynext.codes
 import everynext.errors
+import everynext.keeping
 import everynext.rings
+import everynext.roots
 from tests.helpers import run_examples
 
 PART_1 = """
@@ -22,11 +25,59 @@ raises InvalidText(1)
 >>> chart_told("")
 raises InvalidText(0)
 """
+PART_2 = """
+>>> star, stars = chart_told("0000"), chart_told("00")
+>>> [chart_code(ear), tree_code(star, 0), piece_code(two, 1), chart_by_code(chart_code(ear)), least_alike(ear)]
+[((((),), ((),)),), ((), (), ()), ((), ()), (1, 0, 0, 1), (1, 0, 0, 1)]
+>>> [is_code((((),), ((),))), is_code(((),)), is_code(()), alike_row(ear, (1, 0, 0, 1)), nth_alike_row(ear, (1, 0, 0, 1), 1)]
+[True, False, False, (2, 0, 1, 3), (3, 1, 0, 2)]
+>>> [are_alike(stars, (1, 1)), are_alike(stars, (0, 1)), alike_count(ear), kind_count(3), kind_count(10), kinds(2)]
+[True, False, 12, 7, 7318, [(((),), ((),)), (((), ()),), ((((),),),)]]
+>>> [keep_count(ear), keep_shares(ear), nth_keeping(ear, 1), nth_keeping(ear, 2), keep_shares(star), keep_shares((0, 1))]
+[2, (1, 2, 1), (3, 2, 1, 0), None, (1, 1, 6), (2, 1, 1)]
+>>> [nth_keeping(star, 1), keeping_number(star, (0, 3, 2, 1)), like_lots(ear), own_lot(star), stay_count(star, (1,))]
+[(0, 1, 3, 2), 5, [(0, 3), (1, 2)], (0,), 2]
+>>> [row_leading(star, 1, 3), row_leading(star, 0, 1), moved(star, (0, 3, 1, 2), (1, 2)), lot_count(star, (1, 2))]
+[(0, 3, 1, 2), None, (1, 3), 3]
+>>> alike_row(stars, (0, 1))
+raises NotAlike(((),))
+>>> keeping_number(ear, (1, 0, 2, 3))
+raises NotKeeping(0)
+"""
+PART_3_ROOTS = """
+>>> twos, comb, four = chart_told("1032"), chart_told("1212"), chart_told("1230")
+>>> [root_count(twos, 2), nth_root(twos, 2, 0), nth_root(twos, 2, 2), root_number(twos, 2, (3, 2, 0, 1)), is_root(twos, 2, (2, 3, 1, 0))]
+[2, (2, 3, 1, 0), None, 1, True]
+>>> [root_count(comb, 3), first_root(comb, 3), rooted(comb, 6), step_root(comb, 3), step_root(comb, 2)]
+[3, (1, 2, 1, 0), [1, 3, 5], 1, None]
+>>> [fitting(2, 2), fitting(2, 3), fitting(1, 6), barred_lengths(comb, 2), barred_lengths(twos, 2), ring_root_count(twos, 2)]
+[[2], [1, 3], [1, 2, 3, 6], [2], [], 2]
+>>> [step_root(four, 3), step_root(four, 1), root_count(four, 3)]
+[3, 1, 1]
+>>> first_root(comb, 2)
+raises NoRoot(2)
+>>> first_root(chart_told("0012"), 2)
+raises NoRoot(0)
+"""
 
 
 class ExamplesTest(unittest.TestCase):
+    def names(self):
+        told = dict(vars(everynext.errors))
+        for module in (everynext.charts, everynext.rings, everynext.codes, everynext.keeping, everynext.roots):
+            told.update(vars(module))
+        # The examples of later parts go on with these of part 1.
+        told.update(ear=(1, 2, 1, 2), two=(1, 0))
+        return told
+
     def test_part_1(self):
-        run_examples(self, PART_1, {**vars(everynext.errors), **vars(everynext.charts), **vars(everynext.rings)})
+        run_examples(self, PART_1, self.names())
+
+    def test_part_2(self):
+        run_examples(self, PART_2, self.names())
+
+    def test_part_3_roots(self):
+        run_examples(self, PART_3_ROOTS, self.names())
 
 
 if __name__ == "__main__":

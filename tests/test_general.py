@@ -1,17 +1,21 @@
 """Points [2], [3] and [4], and the interface: names, errors in their order, new lists, equal results."""
 
 import copy
+import functools
 import inspect
 import os
 import subprocess
 import sys
 import unittest
 
-from everynext import charts, errors, rings
-from everynext.errors import InvalidChart, InvalidCount, InvalidPlace, InvalidRow, InvalidText
+from everynext import charts, codes, errors, keeping, rings, roots
+from everynext.errors import (
+    InvalidChart, InvalidCode, InvalidCount, InvalidLot, InvalidPlace, InvalidRow, InvalidText, NoRoot, NotAlike,
+    NotKeeping, Refused, TooMany,
+)
 from tests.helpers import (
-    CHARTS, EAR, LARGE_CHARTS, NINETY_DIGITS, NOT_CHARTS, NOT_NUMBERS, NOT_PLACES, NOT_ROWS, NOT_STRINGS, ONE_RING,
-    deep, state_of,
+    CHARTS, CHARTS_OF_TEN, EAR, LARGE_CHARTS, NINETY_DIGITS, NOT_CHARTS, NOT_CODES, NOT_LOTS, NOT_NUMBERS, NOT_PLACES,
+    NOT_ROWS, NOT_STRINGS, ONE_RING, deep, not_within, plain_chart_code, plainly_renamed, state_of, told_in_time,
 )
 
 INTERFACE = {
@@ -27,18 +31,59 @@ INTERFACE = {
         "pieces": ["chart"], "children": ["chart", "place"], "tree_over": ["chart", "place"],
         "first_repeat": ["chart", "number"],
     },
+    codes: {
+        "tree_code": ["chart", "place"], "piece_code": ["chart", "place"], "chart_code": ["chart"],
+        "is_code": ["value"], "chart_by_code": ["code"], "least_alike": ["chart"],
+        "are_alike": ["chart", "other_chart"], "alike_row": ["chart", "other_chart"],
+        "is_alike_row": ["chart", "other_chart", "value"], "nth_alike_row": ["chart", "other_chart", "number"],
+        "alike_count": ["chart"], "kind_count": ["count"], "kinds": ["count"],
+    },
+    keeping: {
+        "is_keeping": ["chart", "value"], "keep_count": ["chart"], "keep_shares": ["chart"],
+        "nth_keeping": ["chart", "number"], "keeping_number": ["chart", "row"], "like_lots": ["chart"],
+        "own_lot": ["chart"], "row_leading": ["chart", "place", "other_place"], "stay_count": ["chart", "lot"],
+        "moved": ["chart", "row", "lot"], "lot_count": ["chart", "lot"],
+    },
+    roots: {
+        "is_root": ["chart", "power", "value"], "root_count": ["chart", "power"],
+        "nth_root": ["chart", "power", "number"], "root_number": ["chart", "power", "other_chart"],
+        "first_root": ["chart", "power"], "rooted": ["chart", "steps"], "fitting": ["length", "power"],
+        "barred_lengths": ["chart", "power"], "ring_root_count": ["chart", "power"], "step_root": ["chart", "power"],
+    },
 }
 # For each parameter a right value (beside a chart of four places), the error, and wrong values.
 PARAMETERS = {
     "value": (EAR, None, []),
     "chart": (EAR, InvalidChart, NOT_CHARTS),
-    "other_chart": ((3, 3, 1, 0), InvalidChart, NOT_CHARTS + [(0,), (1, 0), (0, 1, 2), (0,) * 5, ONE_RING]),
+    "other_chart": ((3, 3, 1, 0), InvalidChart, NOT_CHARTS),
     "place": (3, InvalidPlace, NOT_PLACES),
     "other_place": (1, InvalidPlace, NOT_PLACES),
     "row": ((3, 1, 0, 2), InvalidRow, NOT_ROWS),
     "number": (7, InvalidCount, NOT_NUMBERS),
     "text": ("1212", InvalidText, NOT_STRINGS + ["", "x", "13", "1x", "0" * 11]),
+    "lot": ((0, 3), InvalidLot, NOT_LOTS),
+    "count": (3, InvalidCount, not_within(10)),
+    "code": ((((((),), ((),))),), InvalidCode, NOT_CODES),
+    "power": (3, InvalidCount, not_within(1000)),
+    "length": (2, InvalidCount, not_within(10)),
+    "steps": (7, InvalidCount, not_within(60)),
 }
+# Where the other chart must have as many places as the chart, these are wrong, too.
+OTHER_NUMBERS_OF_PLACES = [(0,), (1, 0), (0, 1, 2), (0,) * 5, ONE_RING]
+AS_LONG = (charts.behind, roots.root_number)
+# The errors of points, which come behind those of all parameters.
+ERRORS_OF_POINTS = {
+    codes.least_alike: [TooMany], codes.alike_row: [NotAlike], codes.nth_alike_row: [NotAlike], codes.kinds: [TooMany],
+    keeping.keeping_number: [NotKeeping], keeping.moved: [NotKeeping],
+    roots.root_count: [TooMany], roots.nth_root: [TooMany], roots.root_number: [Refused, TooMany],
+    roots.first_root: [TooMany, NoRoot], roots.rooted: [TooMany],
+}
+JUDGES = [
+    charts.is_chart, codes.is_code, codes.are_alike, codes.is_alike_row, keeping.is_keeping, roots.is_root,
+]
+TELL_LISTS = [
+    rings.rings, rings.pieces, codes.kinds, keeping.like_lots, roots.rooted, roots.fitting, roots.barred_lengths,
+]
 ANY_VALUES = [
     0, 1, -1, NINETY_DIGITS, -NINETY_DIGITS, True, False, None, "", "0", "x" * 20000, (), [], (0,), [0], EAR, list(EAR),
     deep(0), deep([]), (0,) * 3000, [0] * 3000, [[1], (2, [3])],
@@ -71,13 +116,45 @@ def kinds_within(value):
     return {type(value)}
 
 
-def some_calls():
+def wrong_values(function, parameter):
+    wrongs = PARAMETERS[parameter][2]
+    if parameter == "other_chart" and function in AS_LONG:
+        return wrongs + OTHER_NUMBERS_OF_PLACES
+    return wrongs
+
+
+def values_for(chart, place):
+    """For each parameter a right value beside the chart that hangs on the place."""
+    count = len(chart)
+    backwards = tuple(range(count))[::-1]
+    return {
+        "chart": chart, "place": place, "other_place": count - 1 - place, "value": backwards, "row": backwards,
+        "other_chart": plainly_renamed(chart, backwards), "number": place + 3, "text": "1212",
+        "lot": tuple(range(place % 2, count, place + 1)), "count": place + 1, "code": plain_chart_code(chart),
+        "power": place + 1, "length": place + 1, "steps": place + 9,
+    }
+
+
+HANG_ON_PLACE = ["place", "lot", "count", "power", "length", "steps"]
+
+
+def spoil(value):
+    """Changes a list and the lists inside of it."""
+    if isinstance(value, (tuple, list)):
+        for held in value:
+            spoil(held)
+    if isinstance(value, list):
+        value.append((99,))
+        value[0] = None
+        value.pop()
+
+
+def some_calls(within=CHARTS):
     """Calls of all functions with each chart, each place and some numbers."""
     for function, parameters in functions():
-        for chart in CHARTS if parameters[0] == "chart" else [EAR]:
-            for place in range(len(chart)) if "place" in parameters else [0]:
-                values = dict(chart=chart, place=place, other_place=len(chart) - 1 - place, other_chart=chart[::-1])
-                values.update(row=tuple(range(len(chart)))[::-1], number=place + 3, value=chart, text="1212")
+        for chart in within if parameters[0] in ("chart", "value", "code") else [ONE_RING]:
+            for place in range(len(chart)) if set(parameters) & set(HANG_ON_PLACE) else [0]:
+                values = values_for(chart, place)
                 yield function, [values[parameter] for parameter in parameters]
 
 
@@ -97,8 +174,8 @@ class InterfaceTest(unittest.TestCase):
     def test_arguments_by_name(self):
         for function, values in some_calls():
             parameters = list(inspect.signature(function).parameters)
-            told = function(**dict(zip(parameters[::-1], values[::-1])))
-            self.assertEqual(told, function(*values), (function, values))
+            by_name = functools.partial(function, **dict(zip(parameters[::-1], values[::-1])))
+            self.assertEqual(outcome(by_name, []), outcome(function, values), (function, values))
 
 
 class ErrorsOfParametersTest(unittest.TestCase):
@@ -115,8 +192,8 @@ class ErrorsOfParametersTest(unittest.TestCase):
     def test_one_wrong_argument(self):
         for function, parameters in functions():
             for index, parameter in enumerate(parameters):
-                _, error, wrongs = PARAMETERS[parameter]
-                for wrong in wrongs:
+                error = PARAMETERS[parameter][1]
+                for wrong in wrong_values(function, parameter):
                     values = right_values(parameters)
                     values[index] = wrong
                     self.assert_error(function, values, error)
@@ -124,8 +201,8 @@ class ErrorsOfParametersTest(unittest.TestCase):
     def test_all_later_ones_wrong_too(self):
         for function, parameters in functions():
             for index, parameter in enumerate(parameters):
-                _, error, wrongs = PARAMETERS[parameter]
-                for wrong in wrongs:
+                error = PARAMETERS[parameter][1]
+                for wrong in wrong_values(function, parameter):
                     for later in (None, True, -1, [], deep(())):
                         values = right_values(parameters[:index]) + [wrong] + [later] * (len(parameters) - index - 1)
                         self.assert_error(function, values, error)
@@ -144,6 +221,11 @@ class ErrorsOfParametersTest(unittest.TestCase):
             self.assert_error(charts.renamed, [chart, tuple(range(count - 1))], InvalidRow)
             self.assert_error(charts.behind, [chart, (0,) * (count - 1)], InvalidChart)
             self.assert_error(charts.behind, [chart, (0,) * (count + 1)], InvalidChart)
+            self.assert_error(codes.tree_code, [chart, count], InvalidPlace)
+            self.assert_error(keeping.row_leading, [chart, 0, count], InvalidPlace)
+            self.assert_error(keeping.stay_count, [chart, (0, count)], InvalidLot)
+            self.assert_error(keeping.keeping_number, [chart, tuple(range(count + 1))], InvalidRow)
+            self.assert_error(roots.root_number, [chart, 2, (0,) * (count - 1)], InvalidChart)
 
     def test_a_call_that_raised_leaves_no_trace(self):
         before = charts.step(EAR, 5), rings.rings(EAR)
@@ -152,10 +234,13 @@ class ErrorsOfParametersTest(unittest.TestCase):
         self.assertEqual((charts.step(EAR, 5), rings.rings(EAR)), before)
 
     def test_any_value_is_judged_without_an_error(self):
-        for value in ANY_VALUES + NOT_CHARTS + NOT_STRINGS:
+        for value in ANY_VALUES + NOT_CHARTS + NOT_STRINGS + NOT_ROWS + NOT_CODES:
             before = copy.deepcopy(value)
-            self.assertIs(type(charts.is_chart(value)), bool, value)
-            self.assertEqual(repr(value), repr(before))
+            for function, parameters in functions():
+                if "value" in parameters:
+                    told = function(*right_values(parameters[:-1]), value)
+                    self.assertIs(type(told), bool, (function, value))
+                    self.assertEqual(repr(value), repr(before), function)
 
     def test_any_value_for_any_parameter(self):
         for function, parameters in functions():
@@ -167,6 +252,7 @@ class ErrorsOfParametersTest(unittest.TestCase):
                     if told == "raised":
                         # A right chart of fewer places may make the places behind it wrong ones.
                         wanted = [PARAMETERS[parameter][1] for parameter in parameters[index:]]
+                        wanted += ERRORS_OF_POINTS.get(function, [])
                         self.assertIn(found[0], wanted, (function, values))
 
 
@@ -174,8 +260,8 @@ class ResultsTest(unittest.TestCase):
     def test_arguments_stay_as_they_are(self):
         for function, values in some_calls():
             before = copy.deepcopy(values)
-            function(*values)
-            self.assertEqual(values, before, function)
+            outcome(function, values)
+            self.assertEqual(repr(values), repr(before), function)
 
     def test_equal_calls_give_equal_results(self):
         for function, values in some_calls():
@@ -183,21 +269,25 @@ class ResultsTest(unittest.TestCase):
 
     def test_results_are_exactly_of_their_kinds(self):
         for function, values in some_calls():
-            found = kinds_within(function(*values))
-            self.assertLessEqual(found, {int, str, tuple, list, bool, type(None)}, (function, values))
-            self.assertEqual(bool in found, function is charts.is_chart, (function, values))
-            self.assertEqual(list in found, function in (rings.rings, rings.pieces), (function, values))
+            told, found = outcome(function, values)
+            if told == "returned":
+                kinds = kinds_within(found)
+                self.assertLessEqual(kinds, {int, str, tuple, list, bool, type(None)}, (function, values))
+                self.assertEqual(bool in kinds, function in JUDGES, (function, values))
+                self.assertEqual(type(found) is list, function in TELL_LISTS, (function, values))
 
     def test_returned_lists_are_new(self):
-        for chart in CHARTS:
-            for function in (rings.rings, rings.pieces):
-                first = function(chart)
-                before = list(first)
-                first.append((99,))
-                first[0] = None
-                self.assertEqual(function(chart), before, (function, chart))
-                first.clear()
-                self.assertEqual(function(chart), before, (function, chart))
+        for function, values in some_calls():
+            if function in TELL_LISTS:
+                told, found = outcome(function, values)
+                before = copy.deepcopy(found)
+                if told == "returned":
+                    spoil(found)
+                    self.assertEqual(outcome(function, values), ("returned", before), (function, values))
+
+    def test_ten_places_in_time(self):
+        for function, values in some_calls(CHARTS_OF_TEN):
+            told_in_time(self, outcome, function, values)
 
     def test_equal_results_in_another_process(self):
         code = "from tests.test_general import told_results; print(told_results())"
