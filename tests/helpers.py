@@ -88,6 +88,48 @@ NOT_CODES = [
     (((),) * 11,), (((),),) * 11, (((),) * 10, ((),)), (((),),) + (((),) * 10,), ((((),) * 10,),), deep((), 13),
     deep(()), (deep(()),), (((),) * 3000,), (((),),) * 1500,
 ]
+# Wrong as wishes beside charts of four places.
+NOT_WISHES = [
+    True, False, None, 0, -1, "", "00", [], [(0, 3)], ([0, 3],), ((0, 3), [1, 2]), (0, 3), ((0,),), ((0, 3, 1),), ((),),
+    ((0, 4),), ((4, 0),), ((-1, 0),), ((0, -1),), ((0, True),), ((False, 1),), ((0, None),), (("0", "3"),),
+    ((1, 2), (0, 3)), ((0, 3), (0, 3)), ((0, 1), (0, 3)), ((0, 3), (1, 2), (1, 3)), ((0, 3), (2, 1), (1, 2)),
+    ((0, NINETY_DIGITS),), ((0, (3,)),), ((0, 0),) * 1000, deep((0, 3), 38), deep(()),
+]
+# Wrong as parts of a chart of four places.
+NOT_PARTS = [
+    True, False, None, 0, -1, "", "0123", [], (), ((),), ((), (0, 1, 2, 3)), ((0, 1, 2, 3), ()), (0, 1, 2, 3),
+    [(0, 1), (2, 3)], ([0, 1], [2, 3]), ((0, 1), [2, 3]), ([0, 1], (2, 3)), ((2, 3), (0, 1)), ((0, 1), (3, 2)),
+    ((1, 0), (2, 3)), ((0, 1), (2,)), ((0, 1), (1, 2, 3)), ((0, 1), (0, 1), (2, 3)), ((0, 0), (1, 2, 3)),
+    ((0, 1), (2, 3, 4)), ((0, 1), (2, 3), (4,)), ((-1, 0), (1, 2, 3)), ((False, 1), (2, 3)), ((0, True), (2, 3)),
+    ((0, 1), (2, "3")), ((0, 1), (2, None)), ((0, 1), (2, (3,))), ((0, 1), 2, 3), (((0, 1), (2, 3)),),
+    ((0,), (1,), (2,), (3,), (4,)), tuple((place,) for place in range(11)), ((0, 1, 2, 3),) * 700, deep(()),
+    deep((0, 1, 2, 3), 39), ((0, 1), (2, NINETY_DIGITS)),
+]
+# Wrong as lots beside a chart of four places.
+NOT_LOTS_OF_LOTS = [
+    True, False, None, 0, -1, "", [], [(0, 3)], (0, 3), ([0, 3],), ((0, 3), [1]), ((3, 0),), ((0, 0),), ((0, 4),),
+    ((-1,),),
+    ((0, True),), ((False,),), ((0, None),), ((0, "3"),), ((0, (3,)),), (((0, 3),),), ((), (1, 0)), ((0, 3), None),
+    ((),) * 21, ((0, 3),) * 21, ((0,),) * 1000, deep(()), deep((0, 3), 39), ((NINETY_DIGITS,),),
+]
+# No trees: turned ties, a tie twice or out of sequence, rings of ties, of eleven places, and other values.
+NOT_TREES = [
+    True, False, None, 0, -1, "", "01", [], [(0, 1)], (0, 1), (0,), ((),), ((0,),), ((0, 0),), ((1, 0),), ((0, 2),),
+    ((1, 2),),
+    ((0, 1), (0, 1)), ((0, 1), (2, 1)), ((0, 2), (0, 1)), ((0, 1), (2, 3)), ((0, 1), (0, 2), (1, 2)), ((-1, 0),),
+    ((0, 1), (0, 2), (1, 2), (3, 4)), ((0, 1), (1, 2), (1, 2)), ((0, 1), (1, 3)), ((0, 1), (1, 2), (2, 4)),
+    ([0, 1],), ((0, 1), [1, 2]), ((0, 1, 2),), ((False, 1),), ((0, True),), ((0, "1"),), ((0, None),), ((0, (1,)),),
+    ((0, 1), 2), ((0, 1), (1, NINETY_DIGITS)), tuple((0, place) for place in range(1, 11)),
+    tuple((place, place + 1) for place in range(10)), ((0, 1),) * 1000, deep(()), deep((0, 1), 39),
+    ((0, 1), (0, 2), (0, 3), (1, 2)),
+]
+# Wrong as leaf rows of trees of four places, and as forest rows of forests of four places with two roots.
+NOT_TOLD_ROWS = [
+    True, False, None, 0, -1, "", "12", [], [1, 0], (), (0,), (1, 2, 0), (1, 2, 3, 0), (0, 4), (4, 0), (-1, 0),
+    (True, 0),
+    (1, False), ("1", 0), (1, None), ((1,), 0), (1, [0]), (1, NINETY_DIGITS), (0,) * 10, (0,) * 3000, deep(()),
+    deep((1, 0), 39),
+]
 NOT_STRINGS = [True, False, None, 0, 10, -1, (), ("0",), ("1", "0"), (1, 0), [], ["0"], [0], deep("0")]
 
 
@@ -166,6 +208,74 @@ def plain_chart_code(chart):
 
 def plainly_renamed(chart, row):
     return tuple(row[chart[row.index(place)]] for place in range(len(chart)))
+
+
+@functools.lru_cache(maxsize=None)
+def plain_along(chart):
+    """All charts that go along with the chart, each looked at."""
+    return tuple(other for other in all_charts(len(chart)) if leads(chart, chart, other))
+
+
+@functools.lru_cache(maxsize=None)
+def all_parts(count):
+    """All parts of so many places, ascending."""
+    if count == 0:
+        return [()]
+    told = []
+    for parts in all_parts(count - 1):
+        told.append(parts + ((count - 1,),))
+        for index, part in enumerate(parts):
+            told.append(parts[:index] + (part + (count - 1,),) + parts[index + 1:])
+    return sorted(tuple(sorted(parts)) for parts in told)
+
+
+def are_together(parts, place, other_place):
+    return any(place in part and other_place in part for part in parts)
+
+
+def is_finer(parts, others):
+    return all(any(set(part) <= set(other) for other in others) for part in parts)
+
+
+def are_plainly_kept(chart, parts):
+    return all(are_together(parts, chart[x], chart[y]) for part in parts for x in part for y in part)
+
+
+@functools.lru_cache(maxsize=None)
+def all_kept_parts(chart):
+    return tuple(parts for parts in all_parts(len(chart)) if are_plainly_kept(chart, parts))
+
+
+def is_plainly_kept(chart, lot):
+    return all(chart[place] in lot for place in lot)
+
+
+def all_kept_lots(chart):
+    return [lot for lot in all_lots(len(chart)) if is_plainly_kept(chart, lot)]
+
+
+def plain_tree_way(tree, place, other_place):
+    """The way along the ties from the one to the other, found among all ways that come to no place twice."""
+    ways = [(place,)]
+    for way in ways:
+        if way[-1] == other_place:
+            return way
+        for tie in tree:
+            if way[-1] in tie:
+                near = sum(tie) - way[-1]
+                if near not in way:
+                    ways.append(way + (near,))
+    return None
+
+
+@functools.lru_cache(maxsize=None)
+def all_trees(count):
+    """All trees of so many places, ascending, found among all tuples of as many ties."""
+    ties = list(itertools.combinations(range(count), 2))
+    return [
+        tree for tree in itertools.combinations(ties, count - 1)
+        if all(plain_tree_way(tree, 0, place) for place in range(count))
+    ]
 
 
 def all_lots(count):

@@ -2,10 +2,14 @@
 
 import unittest
 
+import everynext.along
 import everynext.charts
 import everynext.codes
 import everynext.errors
 import everynext.keeping
+import everynext.kept_lots
+import everynext.likenesses
+import everynext.marked_trees
 import everynext.rings
 import everynext.roots
 from tests.helpers import run_examples
@@ -59,15 +63,70 @@ raises NoRoot(2)
 >>> first_root(chart_told("0012"), 2)
 raises NoRoot(0)
 """
+PART_3_ALONG = """
+>>> [along_count(comb), nth_along(comb, 0), nth_along(comb, 8), along_number(comb, (1, 2, 1, 2)), goals(comb, 0), goals(comb, 1)]
+[8, (0, 1, 2, 1), None, 3, (0, 1, 2, 3), (1, 2)]
+>>> [goes_along(comb, (0, 1, 2, 3)), goes_along(comb, (0, 0, 0, 0)), hitch(comb, (0, 0, 0, 0)), count_through(comb, ((0, 3),)), first_through(comb, ((0, 3), (3, 2)))]
+[True, False, 0, 2, (3, 2, 1, 2)]
+>>> [going_parts(comb), fewest_values(comb), fewest_values(twos), fewest_values(chart_told("1203")), step_number(comb, (0, 1, 2, 3)), step_number(comb, (2, 1, 2, 1)), step_count(comb)]
+[((0, 3), (1, 2)), 2, 2, 1, 0, 2, 3]
+>>> along_number(comb, (0, 0, 0, 0))
+raises NotAlong(0)
+"""
+PART_4_LOTS = """
+>>> ear = chart_told("1212")
+>>> [kept_counts(ear), nth_kept(ear, 2), nth_kept(ear, 5), kept_number(ear, (1, 2, 3)), told_by(ear, (1, 2)), told_by(ear, (0, 1, 2, 3))]
+[[1, 0, 1, 2, 1], (0, 1, 2), None, 3, (1,), (0, 3)]
+>>> [kept_over(ear, (0,)), kept_within(ear, (0, 1)), kept_within(ear, (1, 2, 3)), coming_to(ear, (1,)), coming_to(ear, (0,))]
+[(0, 1, 2), (), (1, 2, 3), (0, 1, 2, 3), (0,)]
+>>> [kept_above(ear, (1, 2)), kept_below(ear, (1, 2)), kept_rows(ear, (), (0, 1, 2, 3)), kept_rows(ear, (0, 1, 2), (1, 2, 3))]
+[[(0, 1, 2), (1, 2, 3)], [()], 2, 0]
+>>> kept_number(ear, (0, 1))
+raises NotKept(1)
+"""
+PART_4_LIKENESSES = """
+>>> six = chart_told("123450")
+>>> kept_parts(six)
+[((0,), (1,), (2,), (3,), (4,), (5,)), ((0, 1, 2, 3, 4, 5),), ((0, 2, 4), (1, 3, 5)), ((0, 3), (1, 4), (2, 5))]
+>>> [least_together(six, ((0, 2),)), joined_parts(six, ((0, 3), (1, 4), (2, 5)), ((0, 2, 4), (1, 3, 5)))]
+[((0, 2, 4), (1, 3, 5)), ((0, 1, 2, 3, 4, 5),)]
+>>> loose = ((0, 1), (2, 3))
+>>> [are_kept(ear, loose), greatest_within(ear, loose), steps_apart(ear, loose, 0, 1), steps_apart(ear, ((0, 3), (1, 2)), 0, 3)]
+[False, ((0,), (1,), (2,), (3,)), 1, None]
+>>> [chart_of(ear, ((0, 3), (1, 2))), together_after(ear, 1), chart_of(ear, together_after(ear, 1)), drawn_together(ear, (1, 2))]
+[(1, 1), ((0, 2), (1, 3)), (1, 0), ((0,), (1, 2), (3,))]
+>>> [lifted_parts(ear, ((0, 2), (1, 3)), ((0, 1),)), parts_above(six, ((0, 3), (1, 4), (2, 5))), kept_parts_count(ear)]
+[((0, 1, 2, 3),), [((0, 1, 2, 3, 4, 5),)], 9]
+>>> chart_of(ear, loose)
+raises NotKept(1)
+"""
+PART_5_TREES = """
+>>> marked_tree(ear)
+(((0, 1), (1, 2), (2, 3)), 2, 1)
+>>> [chart_by_marks(((0, 1), (1, 2), (2, 3)), 2, 1), chart_by_marks(((0, 1), (1, 2), (2, 3)), 0, 3), tree_way(((0, 1), (0, 2)), 2, 1)]
+[(1, 2, 1, 2), (0, 1, 2, 3), (2, 0, 1)]
+>>> [leaf_row(((0, 1), (1, 2), (2, 3))), tree_by(4, (0, 0)), tree_number(((0, 1), (1, 2), (2, 3))), nth_tree(4, 16), tree_count(4)]
+[(1, 2), ((0, 1), (0, 2), (0, 3)), 6, None, 16]
+>>> [forest_of(ear), forest_row((1, 1, 2, 2)), forest_by(4, (1, 2), (1, 2)), forest_count(4, (1, 2)), is_forest(ear)]
+[(1, 1, 2, 2), (1, 2), (1, 1, 2, 2), 8, False]
+>>> forest_row(ear)
+raises NotForest((1, 2))
+"""
+
+
+MODULES = (
+    everynext.errors, everynext.charts, everynext.rings, everynext.codes, everynext.keeping, everynext.roots,
+    everynext.along, everynext.kept_lots, everynext.likenesses, everynext.marked_trees,
+)
 
 
 class ExamplesTest(unittest.TestCase):
     def names(self):
-        told = dict(vars(everynext.errors))
-        for module in (everynext.charts, everynext.rings, everynext.codes, everynext.keeping, everynext.roots):
+        told = {}
+        for module in MODULES:
             told.update(vars(module))
-        # The examples of later parts go on with these of part 1.
-        told.update(ear=(1, 2, 1, 2), two=(1, 0))
+        # The examples of later parts go on with these of earlier ones.
+        told.update(ear=(1, 2, 1, 2), two=(1, 0), twos=(1, 0, 3, 2), comb=(1, 2, 1, 2))
         return told
 
     def test_part_1(self):
@@ -78,6 +137,18 @@ class ExamplesTest(unittest.TestCase):
 
     def test_part_3_roots(self):
         run_examples(self, PART_3_ROOTS, self.names())
+
+    def test_part_3_along(self):
+        run_examples(self, PART_3_ALONG, self.names())
+
+    def test_part_4_lots(self):
+        run_examples(self, PART_4_LOTS, self.names())
+
+    def test_part_4_likenesses(self):
+        run_examples(self, PART_4_LIKENESSES, self.names())
+
+    def test_part_5_trees(self):
+        run_examples(self, PART_5_TREES, self.names())
 
 
 if __name__ == "__main__":

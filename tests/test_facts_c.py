@@ -1,8 +1,9 @@
-"""The facts C1 to C4, over all charts of up to four places and some of up to ten."""
+"""The facts C1 to C5, over all charts of up to four places and some of up to ten."""
 
 import math
 import unittest
 
+from everynext.along import goes_along
 from everynext.charts import step
 from everynext.errors import TooMany
 from everynext.rings import height, on_rings, period, rings
@@ -117,6 +118,16 @@ class FactsTest(unittest.TestCase):
                 self.assertEqual(found is not None, wanted, (chart, power))
                 if wanted:
                     self.assertTrue(is_root(chart, power, step(chart, found)), (chart, power))
+
+    def test_c5_roots_go_along(self):
+        for root in FACT_CHARTS:
+            for power in POWERS:
+                chart = step(root, power)
+                self.assertTrue(goes_along(chart, root) and goes_along(root, chart), (root, power))
+        for chart in UP_TO_FOUR + SEVENS:
+            for power in (2, 3, 1000):
+                for root in some_roots(chart, power):
+                    self.assertTrue(goes_along(chart, root) and goes_along(root, chart), (chart, power, root))
 
     def test_a_first_root_is_there_exactly_if_some_is(self):
         for chart in UP_TO_FOUR:

@@ -8,14 +8,16 @@ import subprocess
 import sys
 import unittest
 
-from everynext import charts, codes, errors, keeping, rings, roots
+from everynext import along, charts, codes, errors, keeping, kept_lots, likenesses, marked_trees, rings, roots
 from everynext.errors import (
-    InvalidChart, InvalidCode, InvalidCount, InvalidLot, InvalidPlace, InvalidRow, InvalidText, NoRoot, NotAlike,
-    NotKeeping, Refused, TooMany,
+    InvalidChart, InvalidCode, InvalidCount, InvalidLot, InvalidLots, InvalidParts, InvalidPlace, InvalidRow,
+    InvalidText, InvalidTree, InvalidWishes, NoRoot, NotAlike, NotAlong, NotForest, NotKeeping, NotKept, Refused,
+    TooMany,
 )
 from tests.helpers import (
-    CHARTS, CHARTS_OF_TEN, EAR, LARGE_CHARTS, NINETY_DIGITS, NOT_CHARTS, NOT_CODES, NOT_LOTS, NOT_NUMBERS, NOT_PLACES,
-    NOT_ROWS, NOT_STRINGS, ONE_RING, deep, not_within, plain_chart_code, plainly_renamed, state_of, told_in_time,
+    CHARTS, CHARTS_OF_TEN, EAR, LARGE_CHARTS, NINETY_DIGITS, NOT_CHARTS, NOT_CODES, NOT_LOTS, NOT_LOTS_OF_LOTS,
+    NOT_NUMBERS, NOT_PARTS, NOT_PLACES, NOT_ROWS, NOT_STRINGS, NOT_TOLD_ROWS, NOT_TREES, NOT_WISHES, ONE_RING, deep,
+    not_within, plain_chart_code, plain_step, plainly_renamed, state_of, told_in_time,
 )
 
 INTERFACE = {
@@ -50,6 +52,34 @@ INTERFACE = {
         "first_root": ["chart", "power"], "rooted": ["chart", "steps"], "fitting": ["length", "power"],
         "barred_lengths": ["chart", "power"], "ring_root_count": ["chart", "power"], "step_root": ["chart", "power"],
     },
+    along: {
+        "goes_along": ["chart", "value"], "hitch": ["chart", "other_chart"], "along_count": ["chart"],
+        "nth_along": ["chart", "number"], "along_number": ["chart", "other_chart"],
+        "count_through": ["chart", "wishes"], "first_through": ["chart", "wishes"], "goals": ["chart", "place"],
+        "goes_to": ["chart", "place", "goal"], "going_parts": ["chart"], "fewest_values": ["chart"],
+        "narrowest": ["chart"], "step_number": ["chart", "other_chart"], "step_count": ["chart"],
+    },
+    kept_lots: {
+        "is_kept": ["chart", "lot"], "kept_over": ["chart", "lot"], "kept_within": ["chart", "lot"],
+        "coming_to": ["chart", "lot"], "kept_counts": ["chart"], "nth_kept": ["chart", "number"],
+        "kept_number": ["chart", "lot"], "told_by": ["chart", "lot"], "kept_above": ["chart", "lot"],
+        "kept_below": ["chart", "lot"], "kept_rows": ["chart", "lot", "other_lot"],
+    },
+    likenesses: {
+        "is_parts": ["chart", "value"], "are_kept": ["chart", "parts"], "least_together": ["chart", "lots"],
+        "greatest_within": ["chart", "parts"], "steps_apart": ["chart", "parts", "place", "other_place"],
+        "joined_parts": ["chart", "parts", "other_parts"], "met_parts": ["chart", "parts", "other_parts"],
+        "together_after": ["chart", "number"], "drawn_together": ["chart", "lot"], "chart_of": ["chart", "parts"],
+        "lifted_parts": ["chart", "parts", "upper"], "parts_above": ["chart", "parts"], "kept_parts": ["chart"],
+        "kept_parts_count": ["chart"],
+    },
+    marked_trees: {
+        "is_tree": ["value"], "tree_way": ["tree", "place", "other_place"],
+        "chart_by_marks": ["tree", "place", "other_place"], "marked_tree": ["chart"], "leaf_row": ["tree"],
+        "tree_by": ["many", "told_row"], "tree_count": ["many"], "tree_number": ["tree"],
+        "nth_tree": ["many", "number"], "is_forest": ["chart"], "forest_of": ["chart"], "forest_row": ["chart"],
+        "forest_by": ["many", "lot", "told_row"], "forest_count": ["many", "lot"],
+    },
 }
 # For each parameter a right value (beside a chart of four places), the error, and wrong values.
 PARAMETERS = {
@@ -67,22 +97,42 @@ PARAMETERS = {
     "power": (3, InvalidCount, not_within(1000)),
     "length": (2, InvalidCount, not_within(10)),
     "steps": (7, InvalidCount, not_within(60)),
+    "goal": (2, InvalidPlace, NOT_PLACES),
+    "wishes": (((0, 3), (2, 1)), InvalidWishes, NOT_WISHES),
+    "other_lot": ((1, 2), InvalidLot, NOT_LOTS),
+    "parts": (((0, 3), (1, 2)), InvalidParts, NOT_PARTS),
+    "other_parts": (((0, 1), (2, 3)), InvalidParts, NOT_PARTS),
+    "lots": (((0, 3), (), (0, 3)), InvalidLots, NOT_LOTS_OF_LOTS),
+    # Parts of a chart of two places, as there are two parts.
+    "upper": (((0,), (1,)), InvalidParts, NOT_PARTS + [((0,),), ((1,),), ((0, 1), (1,)), ((0,), (1,), (2,))]),
+    "many": (4, InvalidCount, not_within(10)),
+    "tree": (((0, 1), (0, 3), (2, 3)), InvalidTree, NOT_TREES),
+    "told_row": ((1, 0), InvalidRow, NOT_TOLD_ROWS),
 }
 # Where the other chart must have as many places as the chart, these are wrong, too.
 OTHER_NUMBERS_OF_PLACES = [(0,), (1, 0), (0, 1, 2), (0,) * 5, ONE_RING]
-AS_LONG = (charts.behind, roots.root_number)
+AS_LONG = (charts.behind, roots.root_number, along.hitch, along.along_number, along.step_number)
+# Where a lot must have a place.
+NOT_EMPTY = (likenesses.drawn_together, marked_trees.forest_by, marked_trees.forest_count)
 # The errors of points, which come behind those of all parameters.
 ERRORS_OF_POINTS = {
     codes.least_alike: [TooMany], codes.alike_row: [NotAlike], codes.nth_alike_row: [NotAlike], codes.kinds: [TooMany],
     keeping.keeping_number: [NotKeeping], keeping.moved: [NotKeeping],
     roots.root_count: [TooMany], roots.nth_root: [TooMany], roots.root_number: [Refused, TooMany],
     roots.first_root: [TooMany, NoRoot], roots.rooted: [TooMany],
+    along.along_number: [NotAlong], kept_lots.kept_number: [NotKept], kept_lots.told_by: [NotKept],
+    kept_lots.kept_above: [NotKept], kept_lots.kept_below: [NotKept], kept_lots.kept_rows: [NotKept],
+    likenesses.chart_of: [NotKept], likenesses.lifted_parts: [NotKept], likenesses.parts_above: [NotKept],
+    likenesses.kept_parts: [TooMany], likenesses.kept_parts_count: [TooMany], marked_trees.forest_row: [NotForest],
 }
 JUDGES = [
     charts.is_chart, codes.is_code, codes.are_alike, codes.is_alike_row, keeping.is_keeping, roots.is_root,
+    along.goes_along, along.goes_to, kept_lots.is_kept, likenesses.is_parts, likenesses.are_kept,
+    marked_trees.is_tree, marked_trees.is_forest,
 ]
 TELL_LISTS = [
     rings.rings, rings.pieces, codes.kinds, keeping.like_lots, roots.rooted, roots.fitting, roots.barred_lengths,
+    kept_lots.kept_counts, kept_lots.kept_above, kept_lots.kept_below, likenesses.parts_above, likenesses.kept_parts,
 ]
 ANY_VALUES = [
     0, 1, -1, NINETY_DIGITS, -NINETY_DIGITS, True, False, None, "", "0", "x" * 20000, (), [], (0,), [0], EAR, list(EAR),
@@ -100,6 +150,10 @@ def functions():
 
 def right_values(parameters):
     return [PARAMETERS[parameter][0] for parameter in parameters]
+
+
+def parts_by(labels):
+    return tuple(sorted({tuple(x for x, held in enumerate(labels) if held == label) for label in labels}))
 
 
 def outcome(function, values):
@@ -120,6 +174,8 @@ def wrong_values(function, parameter):
     wrongs = PARAMETERS[parameter][2]
     if parameter == "other_chart" and function in AS_LONG:
         return wrongs + OTHER_NUMBERS_OF_PLACES
+    if parameter == "lot" and function in NOT_EMPTY:
+        return wrongs + [()]
     return wrongs
 
 
@@ -127,15 +183,31 @@ def values_for(chart, place):
     """For each parameter a right value beside the chart that hangs on the place."""
     count = len(chart)
     backwards = tuple(range(count))[::-1]
+    # What hangs on even places is kept, unless what is added to it is not.
+    kept = tuple(sorted({plain_step(chart, number)[place] for number in range(count)}))
+    parts = parts_by(plain_step(chart, place + 1) if place % 2 == 0 else [x % (place + 1) for x in range(count)])
+    lot = kept if place % 2 == 0 else tuple(range(1, count, place + 1))
     return {
         "chart": chart, "place": place, "other_place": count - 1 - place, "value": backwards, "row": backwards,
         "other_chart": plainly_renamed(chart, backwards), "number": place + 3, "text": "1212",
-        "lot": tuple(range(place % 2, count, place + 1)), "count": place + 1, "code": plain_chart_code(chart),
-        "power": place + 1, "length": place + 1, "steps": place + 9,
+        "lot": lot, "other_lot": tuple(sorted({*lot, count - 1})), "count": place + 1, "code": plain_chart_code(chart),
+        "power": place + 1, "length": place + 1, "steps": place + 9, "goal": count - 1 - place,
+        "wishes": ((place, chart[place]),), "parts": parts, "other_parts": parts_by([x // 2 for x in range(count)]),
+        "lots": (lot, (), (0, count - 1) if count > 1 else (0,)), "upper": (tuple(range(len(parts))),),
+        "tree": tuple((max(0, x - place - 1), x) for x in range(1, count)), "many": place + 1,
+        "told_row": (place,) * (place - 1),
     }
 
 
-HANG_ON_PLACE = ["place", "lot", "count", "power", "length", "steps"]
+def values_for_forests(place):
+    """The same for the functions whose lots are of so many places."""
+    lot = tuple(range(0, place + 1, 2))
+    return {"many": place + 1, "lot": lot, "told_row": (0,) * (place + 1 - len(lot))}
+
+
+HANG_ON_PLACE = [
+    "place", "lot", "count", "power", "length", "steps", "wishes", "parts", "lots", "tree", "many", "told_row",
+]
 
 
 def spoil(value):
@@ -152,9 +224,12 @@ def spoil(value):
 def some_calls(within=CHARTS):
     """Calls of all functions with each chart, each place and some numbers."""
     for function, parameters in functions():
-        for chart in within if parameters[0] in ("chart", "value", "code") else [ONE_RING]:
+        with_charts = parameters[0] in ("chart", "value", "code", "tree")
+        for chart in within if with_charts else [ONE_RING]:
             for place in range(len(chart)) if set(parameters) & set(HANG_ON_PLACE) else [0]:
                 values = values_for(chart, place)
+                if "many" in parameters and "lot" in parameters:
+                    values = values_for_forests(place)
                 yield function, [values[parameter] for parameter in parameters]
 
 
@@ -226,6 +301,13 @@ class ErrorsOfParametersTest(unittest.TestCase):
             self.assert_error(keeping.stay_count, [chart, (0, count)], InvalidLot)
             self.assert_error(keeping.keeping_number, [chart, tuple(range(count + 1))], InvalidRow)
             self.assert_error(roots.root_number, [chart, 2, (0,) * (count - 1)], InvalidChart)
+            self.assert_error(along.goes_to, [chart, 0, count], InvalidPlace)
+            self.assert_error(along.count_through, [chart, ((0, count),)], InvalidWishes)
+            self.assert_error(along.first_through, [chart, ((count, 0),)], InvalidWishes)
+            self.assert_error(kept_lots.kept_rows, [chart, (), (count,)], InvalidLot)
+            self.assert_error(likenesses.least_together, [chart, ((0, count),)], InvalidLots)
+            self.assert_error(likenesses.are_kept, [chart, (tuple(range(count + 1)),)], InvalidParts)
+            self.assert_error(likenesses.are_kept, [chart, (tuple(range(count - 1)),)], InvalidParts)
 
     def test_a_call_that_raised_leaves_no_trace(self):
         before = charts.step(EAR, 5), rings.rings(EAR)
@@ -234,7 +316,7 @@ class ErrorsOfParametersTest(unittest.TestCase):
         self.assertEqual((charts.step(EAR, 5), rings.rings(EAR)), before)
 
     def test_any_value_is_judged_without_an_error(self):
-        for value in ANY_VALUES + NOT_CHARTS + NOT_STRINGS + NOT_ROWS + NOT_CODES:
+        for value in ANY_VALUES + NOT_CHARTS + NOT_STRINGS + NOT_ROWS + NOT_CODES + NOT_PARTS + NOT_TREES:
             before = copy.deepcopy(value)
             for function, parameters in functions():
                 if "value" in parameters:
