@@ -10,7 +10,8 @@ from everynext.checks import (
     is_chart_value,
 )
 from everynext.errors import NotAlong
-from everynext.rings import Frame, height, period, ring_of, rings
+from everynext.mappings import Pair, count_with_wishes, goals_of, map_number, nth_map
+from everynext.rings import height, period, ring_of, rings
 
 
 def first_hitch(chart, other_chart):
@@ -31,67 +32,6 @@ def hitch(chart, other_chart):
     return first_hitch(chart, other_chart)
 
 
-def ways_over(chart, frame, wished, place, goal):
-    """In how many ways the tree over the place can be led, the place itself to the goal."""
-    if wished.get(place, goal) != goal:
-        return 0
-    told = 1
-    for child in frame.under[place]:
-        told = told * sum([
-            ways_over(chart, frame, wished, child, ahead) for ahead in range(len(chart)) if chart[ahead] == goal
-        ])
-    return told
-
-
-def ways_round(chart, frame, wished, ring, other_ring):
-    """In how many ways the piece with the ring can be led so that the ring goes round the other one."""
-    told = 0
-    for begin in range(len(other_ring)):
-        ways = 1
-        for index, place in enumerate(ring):
-            goal = other_ring[(begin + index) % len(other_ring)]
-            ways = ways * ways_over(chart, frame, wished, place, goal)
-        told = told + ways
-    return told
-
-
-def count_wished(chart, frame, wished):
-    """How many charts go along and lead each place for which a goal is wished to this one."""
-    told = 1
-    for ring in frame.around:
-        told = told * sum([
-            ways_round(chart, frame, wished, ring, other) for other in frame.around if len(ring) % len(other) == 0
-        ])
-    return told
-
-
-def counts_by_goal(chart, frame, wished, place):
-    """How many charts go along, as is wished, and lead the place to 0, to 1, and so on."""
-    return [
-        count_wished(chart, frame, {**wished, place: goal}) if wished.get(place, goal) == goal else 0
-        for goal in range(len(chart))
-    ]
-
-
-def nth_wished(chart, wishes, number):
-    """Of the charts that go along and fulfil the wishes the one with this index, or None."""
-    frame = Frame(chart)
-    wished = dict(wishes)
-    if number >= count_wished(chart, frame, wished):
-        return None
-    left = number
-    told = []
-    for place in range(len(chart)):
-        counts = counts_by_goal(chart, frame, wished, place)
-        goal = 0
-        while left >= counts[goal]:
-            left = left - counts[goal]
-            goal = goal + 1
-        told.append(goal)
-        wished[place] = goal
-    return tuple(told)
-
-
 def along_count(chart):
     """How many charts go along with the chart."""
     return count_through(chart, ())
@@ -101,7 +41,7 @@ def nth_along(chart, number):
     """Of the charts that go along the one with this index, or None."""
     check_chart(chart)
     check_number(number)
-    return nth_wished(chart, (), number)
+    return nth_map(Pair(chart, chart), (), number)
 
 
 def along_number(chart, other_chart):
@@ -111,38 +51,28 @@ def along_number(chart, other_chart):
     failing = first_hitch(chart, other_chart)
     if failing is not None:
         raise NotAlong(failing)
-    frame = Frame(chart)
-    told = 0
-    for place in range(len(chart)):
-        counts = counts_by_goal(chart, frame, dict(enumerate(other_chart[:place])), place)
-        told = told + sum(counts[:other_chart[place]])
-    return told
+    return map_number(Pair(chart, chart), other_chart)
 
 
 def count_through(chart, wishes):
     """How many charts go along and fulfil all wishes."""
     check_chart(chart)
     check_wishes(chart, chart, wishes)
-    return count_wished(chart, Frame(chart), dict(wishes))
+    return count_with_wishes(Pair(chart, chart), dict(wishes))
 
 
 def first_through(chart, wishes):
     """The first chart that goes along and fulfils all wishes, or None."""
     check_chart(chart)
     check_wishes(chart, chart, wishes)
-    return nth_wished(chart, wishes, 0)
-
-
-def goals_of(chart, frame, place):
-    counts = counts_by_goal(chart, frame, {}, place)
-    return tuple([goal for goal in range(len(chart)) if counts[goal] > 0])
+    return nth_map(Pair(chart, chart), wishes, 0)
 
 
 def goals(chart, place):
     """The lot of the places to which some chart that goes along leads the place."""
     check_chart(chart)
     check_place(chart, place)
-    return goals_of(chart, Frame(chart), place)
+    return goals_of(Pair(chart, chart), place)
 
 
 def goes_to(chart, place, goal):
@@ -150,14 +80,14 @@ def goes_to(chart, place, goal):
     check_chart(chart)
     check_place(chart, place)
     check_place(chart, goal)
-    return goal in goals_of(chart, Frame(chart), place)
+    return goal in goals(chart, place)
 
 
 def going_parts(chart):
     """The lots of places each of which goes to the other ones and back."""
     check_chart(chart)
-    frame = Frame(chart)
-    found = [goals_of(chart, frame, place) for place in range(len(chart))]
+    pair = Pair(chart, chart)
+    found = [goals_of(pair, place) for place in range(len(chart))]
     lots = [tuple([goal for goal in found[place] if place in found[goal]]) for place in range(len(chart))]
     return tuple(sorted(set(lots)))
 

@@ -3,6 +3,7 @@
 from everynext.errors import (
     InvalidChart,
     InvalidCount,
+    InvalidLengths,
     InvalidLot,
     InvalidLots,
     InvalidParts,
@@ -51,9 +52,13 @@ def check_chart_as_long(chart, other_chart):
         raise InvalidChart("the other chart must have as many places as the chart")
 
 
-def check_place(chart, place):
-    if not is_integer_below(place, len(chart)):
+def check_place_below(place, bound):
+    if not is_integer_below(place, bound):
         raise InvalidPlace("a place is an integer from 0 on and less than the number of places")
+
+
+def check_place(chart, place):
+    check_place_below(place, len(chart))
 
 
 def check_row(chart, row):
@@ -64,6 +69,11 @@ def check_row(chart, row):
 def check_number(number):
     if not is_integer(number) or number < 0:
         raise InvalidCount("a number is an integer from 0 on")
+
+
+def check_count(count):
+    if not is_integer(count) or count < 1:
+        raise InvalidCount("a count is an integer from 1 on")
 
 
 def is_ascending(values):
@@ -85,8 +95,18 @@ def check_within(value, least, most):
         raise InvalidCount("the integer is not within its bounds")
 
 
+def check_many(many):
+    check_within(many, 1, MOST_PLACES)
+
+
 def check_power(power):
     check_within(power, 1, MOST_POWER)
+
+
+def check_lengths(lengths):
+    rightly = isinstance(lengths, tuple) and lengths != () and all([is_integer(length) for length in lengths])
+    if not rightly or lengths[0] < 1 or not all([x <= y for x, y in zip(lengths, lengths[1:])]):
+        raise InvalidLengths("lengths are a tuple of one or more integers from 1 on, none less than the one ahead")
 
 
 def check_few_places(chart, most):

@@ -3,9 +3,9 @@
 from everynext.checks import (
     MOST_PLACES,
     check_chart,
+    check_many,
     check_number,
-    check_place,
-    check_within,
+    check_place_below,
     is_ascending,
     is_lot_below,
     is_pair_below,
@@ -49,10 +49,8 @@ def place_count(tree):
 
 
 def check_places_of_tree(tree, place, other_place):
-    # Any row with an entry for each place of the tree tells which integers are places.
-    everywhere = (0,) * place_count(tree)
-    check_place(everywhere, place)
-    check_place(everywhere, other_place)
+    check_place_below(place, place_count(tree))
+    check_place_below(other_place, place_count(tree))
 
 
 def way_between(tree, place, other_place):
@@ -135,7 +133,7 @@ def tree_told(many, told_row):
 
 def tree_by(many, told_row):
     """The tree of so many places with this leaf row."""
-    check_within(many, 1, MOST_PLACES)
+    check_many(many)
     if not is_tuple_below(told_row, many) or len(told_row) != max(many - 2, 0):
         raise InvalidRow("a leaf row has as many places as the tree, less two")
     return tree_told(many, told_row)
@@ -154,7 +152,7 @@ def count_of_trees(many):
 
 def tree_count(many):
     """How many trees of so many places there are."""
-    check_within(many, 1, MOST_PLACES)
+    check_many(many)
     return count_of_trees(many)
 
 
@@ -169,7 +167,7 @@ def tree_number(tree):
 
 def nth_tree(many, number):
     """The tree of so many places with this number, or None."""
-    check_within(many, 1, MOST_PLACES)
+    check_many(many)
     check_number(number)
     if number >= count_of_trees(many):
         return None
@@ -221,7 +219,7 @@ def check_roots(many, lot):
 
 def forest_by(many, lot, told_row):
     """The forest of so many places with just these roots and this forest row."""
-    check_within(many, 1, MOST_PLACES)
+    check_many(many)
     check_roots(many, lot)
     others = [place for place in range(many) if place not in lot]
     if not is_tuple_below(told_row, many) or len(told_row) != len(others):
@@ -236,7 +234,7 @@ def forest_by(many, lot, told_row):
 
 def forest_count(many, lot):
     """How many forests of so many places have just these roots."""
-    check_within(many, 1, MOST_PLACES)
+    check_many(many)
     check_roots(many, lot)
     if len(lot) == many:
         return 1

@@ -15,12 +15,11 @@ from everynext.checks import (
     is_chart_value,
 )
 from everynext.errors import NoRoot, Refused
+from everynext.open_rows import OPEN, halt
 from everynext.rings import height, on_rings, period, rings
 
 MOST_FOR_ALL = 7
 MOST_FOR_FIRST = 8
-# What stands for the next place of a place as long as none is chosen.
-OPEN = -1
 
 
 def is_root_of(chart, power, root):
@@ -34,18 +33,10 @@ def is_root(chart, power, value):
     return is_chart_value(value) and is_root_of(chart, power, value)
 
 
-def place_behind(row, place, number):
-    """The place to which the place comes in a row that is told in part; OPEN if that is not told yet."""
-    passed = [place]
-    while len(passed) <= number:
-        following = row[passed[-1]]
-        if following == OPEN:
-            return OPEN
-        if following in passed:
-            begin = passed.index(following)
-            return passed[begin + (number - begin) % (len(passed) - begin)]
-        passed.append(following)
-    return passed[number]
+def agrees(chart, power, row, place):
+    """Whether the place comes to its next place in the chart, as far as the row is told."""
+    reached, left = halt(row, place, power)
+    return left > 0 or reached == chart[place]
 
 
 def grown(chart, row, place, goal):
@@ -59,7 +50,7 @@ def grown(chart, row, place, goal):
 
 
 def may_be_root(chart, power, row):
-    return all([place_behind(row, place, power) in (OPEN, chart[place]) for place in range(len(chart))])
+    return all([agrees(chart, power, row, place) for place in range(len(chart))])
 
 
 def add_roots(chart, power, row, most, found):

@@ -130,6 +130,34 @@ NOT_TOLD_ROWS = [
     (1, False), ("1", 0), (1, None), ((1,), 0), (1, [0]), (1, NINETY_DIGITS), (0,) * 10, (0,) * 3000, deep(()),
     deep((1, 0), 39),
 ]
+NOT_LENGTHS = [
+    True, False, None, 0, 1, -1, "", "12", (), [], [1], [1, 2], (0,), (-1,), (0, 1), (2, 1), (1, 2, 1), (10, 9), (1, 0),
+    (10, 9, 8, 7, 6, 5, 4, 3, 2, 1), (1, 3, 2, 4), (True,), (1, True), (False, 1), ("1",), (1, "2"), (None,), (1, None),
+    ((1,),), (1, (2,)), ([1],), (NINETY_DIGITS, 1), (-NINETY_DIGITS,), (0,) * 3000, (2,) * 2999 + (1,), deep(1),
+    deep(()), deep((1, 2), 39),
+]
+# Wrong as fits of the chart (1, 2, 1, 2) into the chart (3, 3, 1, 0).
+NOT_FITS = [
+    True, False, None, 0, -1, "", "3031", [], [3, 0, 3, 1], (), (3,), (3, 0, 3), (3, 0, 3, 1, 3), (3, 0, 3, 1, 0),
+    (3, 0, 3, 4), (3, 0, 3, -1), (3, 0, 3, 2), (3, 0, 3, 3), (1, 0, 3, 1), (3, 3, 3, 3), (0, 0, 0, 0), (3, 1, 3, 0),
+    (3, False, 3, 1), (3, 0, 3, True), (3, 0, 3, "1"), (3, 0, 3, None), (3, 0, 3, (1,)), (3, 0, 3, [1]),
+    (3, 0, 3, NINETY_DIGITS), (0,) * 3000, tuple(range(11)), deep(0), deep((3, 0, 3, 1), 39), ((3, 0, 3, 1),),
+]
+# Wrong as one clue for four places.
+NOT_CLUES_OF_ONE = [
+    True, False, None, 0, -1, "", "011", [], [0, 1, 1], (), (0,), (0, 1), (0, 1, 1, 1), (4, 1, 0), (0, 1, 4), (-1, 1, 0),
+    (0, 1, -1), (0, -1, 1), (0, -NINETY_DIGITS, 1), (NINETY_DIGITS, 1, 0), (0, 1, NINETY_DIGITS), (True, 1, 1),
+    (False, 1, 1), (0, True, 1), (0, False, 0), (0, 1, True), (0, 1, False), ("0", 1, 1), (0, "1", 1), (0, 1, "1"),
+    (None, 1, 1), (0, None, 1), (0, 1, None), ((0,), 1, 1), (0, (1,), 1), (0, 1, (1,)), (0, [1], 1), (0, 1, [1]),
+    (0,) * 3000, deep(0), deep(()), deep((0, 1, 1), 39),
+]
+# Wrong as clues for four places.
+NOT_CLUES = [wrong if isinstance(wrong, list) else (wrong,) for wrong in NOT_CLUES_OF_ONE] + [
+    True, False, None, 0, -1, "", "011", [(0, 1, 1)], (0, 1, 1), ([0, 1, 1],), ((0, 1, 1), [1, 2, 1]),
+    ((1, 2, 1), (0, 1, 1)), ((0, 1, 1), (0, 1, 1)), ((0, 2, 2), (0, 1, 1)), ((0, 1, 1), (0, 1, 0)),
+    ((0, 1, 1), (1, 1, 2), (1, 1, 2)), ((0, 1, 1), (1, 1, 4)), ((0, 1, 1), (4, 1, 1)), ((0, 1, 1), None),
+    tuple((0, number, 0) for number in range(21)), ((0, 1, 1),) * 21, ((0, 0, 0),) * 700, (((0, 1, 1),),),
+]
 NOT_STRINGS = [True, False, None, 0, 10, -1, (), ("0",), ("1", "0"), (1, 0), [], ["0"], [0], deep("0")]
 
 
@@ -214,6 +242,31 @@ def plainly_renamed(chart, row):
 def plain_along(chart):
     """All charts that go along with the chart, each looked at."""
     return tuple(other for other in all_charts(len(chart)) if leads(chart, chart, other))
+
+
+@functools.lru_cache(maxsize=None)
+def plain_fits(chart, other_chart):
+    """All fits, each looked at."""
+    rows = itertools.product(range(len(other_chart)), repeat=len(chart))
+    return tuple(row for row in rows if leads(chart, other_chart, row))
+
+
+@functools.lru_cache(maxsize=None)
+def one_of_each_kind(count):
+    """The first chart of each kind of so many places."""
+    told = {}
+    for chart in all_charts(count):
+        told.setdefault(plain_chart_code(chart), chart)
+    return tuple(told.values())
+
+
+def plainly_meets(chart, clues):
+    return all(walked(chart, place, number) == goal for place, number, goal in clues)
+
+
+def plain_meeting(count, clues):
+    """All charts that meet the clues, each looked at."""
+    return [chart for chart in all_charts(count) if plainly_meets(chart, clues)]
 
 
 @functools.lru_cache(maxsize=None)

@@ -3,9 +3,12 @@
 import unittest
 
 import everynext.along
+import everynext.chart_counts
 import everynext.charts
+import everynext.clues
 import everynext.codes
 import everynext.errors
+import everynext.fits
 import everynext.keeping
 import everynext.kept_lots
 import everynext.likenesses
@@ -112,11 +115,42 @@ PART_5_TREES = """
 >>> forest_row(ear)
 raises NotForest((1, 2))
 """
+PART_5_COUNTS = """
+>>> [ring_place_counts(3), reached_counts(3), piece_counts(3), height_counts(3), period_counts(3), depth_totals(3)]
+[[0, 9, 12, 6], [0, 3, 18, 6], [0, 17, 9, 1], [6, 15, 6], [(1, 16), (2, 9), (3, 2)], [51, 24, 6]]
+>>> [ring_length_count(4, (2,)), ring_length_count(3, (1, 1, 2)), returning_count(3, 0, 1), returning_count(3, 1, 1)]
+[48, 0, 1, 10]
+>>> [nth_by_ring_places(3, 1, 0), ring_places_rank((1, 2, 0)), nth_by_reached(3, 2, 0), nth_by_reached(3, 4, 0)]
+[(0, 0, 0), 3, (0, 0, 1), None]
+"""
+PART_6_FITS = """
+>>> hook, pair, turn = (1, 0, 0, 2), (1, 0, 0), (1, 2, 0)
+>>> [all_fits(hook, pair), fit_count(hook, pair), nth_fit(hook, pair, 2), fit_number(hook, pair, (1, 0, 0, 1)), nth_fit(hook, pair, 3)]
+[[(0, 1, 1, 0), (1, 0, 0, 1), (1, 0, 0, 2)], 3, (1, 0, 0, 2), 1, None]
+>>> [first_wished(hook, pair, ((0, 1),)), wished_count(hook, pair, ((0, 1),)), fit_image(hook, pair, (0, 1, 1, 0)), fit_split(hook, pair, (1, 0, 0, 2)), onto_count(hook, pair)]
+[(1, 0, 0, 1), 2, (0, 1), ((0,), (1, 2), (3,)), 1]
+>>> [core(hook), can_lay(hook, (0, 1, 2)), go_both_ways(hook, pair), go_both_ways(hook, turn), is_fit(hook, pair, (0, 1, 1, 2))]
+[(0, 1), True, True, False, False]
+>>> first_fit(turn, pair)
+raises NoFit((0, 1, 2))
+"""
+PART_6_CLUES = """
+>>> told = ((0, 1, 1), (1, 2, 0))
+>>> [meeting_count(3, told), nth_meeting(3, told, 0), sure_nexts(3, told), tells_all(3, told), meeting_count(3, ()), meeting_count(3, ((0, 2, 0),))]
+[1, (1, 2, 0), (1, 2, 0), True, 27, 15]
+>>> [sure_nexts(3, ((0, 1, 1), (0, 2, 2))), may_be(3, ((0, 2, 0),), 0, 1), sure_on_rings(3, ((0, 2, 0),)), may_be_on_rings(3, ((0, 1, 1), (0, 2, 1))), depth_bounds(3, ((0, 1, 1), (1, 1, 1)), 2)]
+[(1, 2, None), (0, 1, 2), (0,), (1, 2), (0, 2)]
+>>> [clash(2, ((0, 1, 1), (0, 3, 0), (1, 1, 1))), is_bar(2, ((0, 1, 1), (0, 3, 0))), is_bar(2, ((0, 0, 1),)), spare_clues(3, told + ((2, 1, 0),)), is_sure(3, told, (0, 10 ** 40, 1))]
+[((0, 1, 1), (0, 3, 0)), True, True, [(2, 1, 0)], True]
+>>> sure_nexts(2, ((0, 1, 1), (0, 3, 0)))
+raises Clash(((0, 1, 1), (0, 3, 0)))
+"""
 
 
 MODULES = (
     everynext.errors, everynext.charts, everynext.rings, everynext.codes, everynext.keeping, everynext.roots,
-    everynext.along, everynext.kept_lots, everynext.likenesses, everynext.marked_trees,
+    everynext.along, everynext.kept_lots, everynext.likenesses, everynext.marked_trees, everynext.chart_counts,
+    everynext.fits, everynext.clues,
 )
 
 
@@ -149,6 +183,15 @@ class ExamplesTest(unittest.TestCase):
 
     def test_part_5_trees(self):
         run_examples(self, PART_5_TREES, self.names())
+
+    def test_part_5_counts(self):
+        run_examples(self, PART_5_COUNTS, self.names())
+
+    def test_part_6_fits(self):
+        run_examples(self, PART_6_FITS, self.names())
+
+    def test_part_6_clues(self):
+        run_examples(self, PART_6_CLUES, self.names())
 
 
 if __name__ == "__main__":

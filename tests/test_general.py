@@ -8,16 +8,19 @@ import subprocess
 import sys
 import unittest
 
-from everynext import along, charts, codes, errors, keeping, kept_lots, likenesses, marked_trees, rings, roots
+from everynext import (
+    along, chart_counts, charts, clues, codes, errors, fits, keeping, kept_lots, likenesses, marked_trees, rings, roots,
+)
 from everynext.errors import (
-    InvalidChart, InvalidCode, InvalidCount, InvalidLot, InvalidLots, InvalidParts, InvalidPlace, InvalidRow,
-    InvalidText, InvalidTree, InvalidWishes, NoRoot, NotAlike, NotAlong, NotForest, NotKeeping, NotKept, Refused,
-    TooMany,
+    Clash, InvalidChart, InvalidClues, InvalidCode, InvalidCount, InvalidFit, InvalidLengths, InvalidLot, InvalidLots,
+    InvalidParts, InvalidPlace, InvalidRow, InvalidText, InvalidTree, InvalidWishes, NoFit, NoRoot, NotAlike, NotAlong,
+    NotForest, NotKeeping, NotKept, Refused, TooMany,
 )
 from tests.helpers import (
-    CHARTS, CHARTS_OF_TEN, EAR, LARGE_CHARTS, NINETY_DIGITS, NOT_CHARTS, NOT_CODES, NOT_LOTS, NOT_LOTS_OF_LOTS,
-    NOT_NUMBERS, NOT_PARTS, NOT_PLACES, NOT_ROWS, NOT_STRINGS, NOT_TOLD_ROWS, NOT_TREES, NOT_WISHES, ONE_RING, deep,
-    not_within, plain_chart_code, plain_step, plainly_renamed, state_of, told_in_time,
+    CHARTS, CHARTS_OF_TEN, EAR, LARGE_CHARTS, NINETY_DIGITS, NOT_CHARTS, NOT_CLUES, NOT_CLUES_OF_ONE, NOT_CODES,
+    NOT_FITS, NOT_LENGTHS, NOT_LOTS, NOT_LOTS_OF_LOTS, NOT_NUMBERS, NOT_PARTS, NOT_PLACES, NOT_ROWS, NOT_STRINGS,
+    NOT_TOLD_ROWS, NOT_TREES, NOT_WISHES, ONE_RING, deep, not_within, plain_chart_code, plain_step, plainly_renamed,
+    state_of, told_in_time,
 )
 
 INTERFACE = {
@@ -80,6 +83,29 @@ INTERFACE = {
         "nth_tree": ["many", "number"], "is_forest": ["chart"], "forest_of": ["chart"], "forest_row": ["chart"],
         "forest_by": ["many", "lot", "told_row"], "forest_count": ["many", "lot"],
     },
+    chart_counts: {
+        "ring_place_counts": ["many"], "reached_counts": ["many"], "piece_counts": ["many"], "height_counts": ["many"],
+        "period_counts": ["many"], "ring_length_count": ["many", "lengths"], "depth_totals": ["many"],
+        "returning_count": ["many", "number", "count"], "nth_by_ring_places": ["many", "count", "number"],
+        "ring_places_rank": ["chart"], "nth_by_reached": ["many", "count", "number"], "reached_rank": ["chart"],
+    },
+    fits: {
+        "is_fit": ["chart", "other_chart", "value"], "fit_count": ["chart", "other_chart"],
+        "nth_fit": ["chart", "other_chart", "number"], "fit_number": ["chart", "other_chart", "fit"],
+        "first_fit": ["chart", "other_chart"], "all_fits": ["chart", "other_chart"],
+        "wished_count": ["chart", "other_chart", "wishes"], "first_wished": ["chart", "other_chart", "wishes"],
+        "fit_image": ["chart", "other_chart", "fit"], "fit_split": ["chart", "other_chart", "fit"],
+        "onto_count": ["chart", "other_chart"], "can_lay": ["chart", "lot"], "core": ["chart"],
+        "go_both_ways": ["chart", "other_chart"],
+    },
+    clues: {
+        "meets": ["chart", "clues"], "is_bar": ["many", "value"], "clash": ["many", "clues"],
+        "meeting_count": ["many", "clues"], "nth_meeting": ["many", "clues", "number"],
+        "is_sure": ["many", "clues", "clue"], "sure_nexts": ["many", "clues"],
+        "may_be": ["many", "clues", "place", "number"], "sure_on_rings": ["many", "clues"],
+        "may_be_on_rings": ["many", "clues"], "depth_bounds": ["many", "clues", "place"],
+        "spare_clues": ["many", "clues"], "tells_all": ["many", "clues"],
+    },
 }
 # For each parameter a right value (beside a chart of four places), the error, and wrong values.
 PARAMETERS = {
@@ -108,12 +134,18 @@ PARAMETERS = {
     "many": (4, InvalidCount, not_within(10)),
     "tree": (((0, 1), (0, 3), (2, 3)), InvalidTree, NOT_TREES),
     "told_row": ((1, 0), InvalidRow, NOT_TOLD_ROWS),
+    "lengths": ((1, 2), InvalidLengths, NOT_LENGTHS),
+    "fit": ((3, 0, 3, 1), InvalidFit, NOT_FITS),
+    "clues": (((0, 1, 1), (2, 3, 1)), InvalidClues, NOT_CLUES),
+    "clue": ((3, 2, 1), InvalidClues, NOT_CLUES_OF_ONE),
 }
 # Where the other chart must have as many places as the chart, these are wrong, too.
 OTHER_NUMBERS_OF_PLACES = [(0,), (1, 0), (0, 1, 2), (0,) * 5, ONE_RING]
 AS_LONG = (charts.behind, roots.root_number, along.hitch, along.along_number, along.step_number)
 # Where a lot must have a place.
-NOT_EMPTY = (likenesses.drawn_together, marked_trees.forest_by, marked_trees.forest_count)
+NOT_EMPTY = (likenesses.drawn_together, marked_trees.forest_by, marked_trees.forest_count, fits.can_lay)
+# Where a count may be above all bounds.
+WITHOUT_BOUND = (chart_counts.returning_count, chart_counts.nth_by_ring_places, chart_counts.nth_by_reached)
 # The errors of points, which come behind those of all parameters.
 ERRORS_OF_POINTS = {
     codes.least_alike: [TooMany], codes.alike_row: [NotAlike], codes.nth_alike_row: [NotAlike], codes.kinds: [TooMany],
@@ -124,15 +156,23 @@ ERRORS_OF_POINTS = {
     kept_lots.kept_above: [NotKept], kept_lots.kept_below: [NotKept], kept_lots.kept_rows: [NotKept],
     likenesses.chart_of: [NotKept], likenesses.lifted_parts: [NotKept], likenesses.parts_above: [NotKept],
     likenesses.kept_parts: [TooMany], likenesses.kept_parts_count: [TooMany], marked_trees.forest_row: [NotForest],
+    fits.first_fit: [NoFit], fits.all_fits: [TooMany], clues.is_bar: [TooMany], clues.clash: [TooMany],
+    clues.meeting_count: [TooMany], clues.nth_meeting: [TooMany], clues.is_sure: [TooMany, Clash],
+    clues.sure_nexts: [TooMany, Clash], clues.may_be: [TooMany, Clash], clues.sure_on_rings: [TooMany, Clash],
+    clues.may_be_on_rings: [TooMany, Clash], clues.depth_bounds: [TooMany, Clash],
+    clues.spare_clues: [TooMany, Clash], clues.tells_all: [TooMany, Clash],
 }
 JUDGES = [
     charts.is_chart, codes.is_code, codes.are_alike, codes.is_alike_row, keeping.is_keeping, roots.is_root,
     along.goes_along, along.goes_to, kept_lots.is_kept, likenesses.is_parts, likenesses.are_kept,
-    marked_trees.is_tree, marked_trees.is_forest,
+    marked_trees.is_tree, marked_trees.is_forest, fits.is_fit, fits.can_lay, fits.go_both_ways, clues.meets,
+    clues.is_bar, clues.is_sure, clues.tells_all,
 ]
 TELL_LISTS = [
     rings.rings, rings.pieces, codes.kinds, keeping.like_lots, roots.rooted, roots.fitting, roots.barred_lengths,
     kept_lots.kept_counts, kept_lots.kept_above, kept_lots.kept_below, likenesses.parts_above, likenesses.kept_parts,
+    chart_counts.ring_place_counts, chart_counts.reached_counts, chart_counts.piece_counts, chart_counts.height_counts,
+    chart_counts.period_counts, chart_counts.depth_totals, fits.all_fits, clues.spare_clues,
 ]
 ANY_VALUES = [
     0, 1, -1, NINETY_DIGITS, -NINETY_DIGITS, True, False, None, "", "0", "x" * 20000, (), [], (0,), [0], EAR, list(EAR),
@@ -176,6 +216,8 @@ def wrong_values(function, parameter):
         return wrongs + OTHER_NUMBERS_OF_PLACES
     if parameter == "lot" and function in NOT_EMPTY:
         return wrongs + [()]
+    if parameter == "count" and function in WITHOUT_BOUND:
+        return NOT_NUMBERS + [0]
     return wrongs
 
 
@@ -195,7 +237,9 @@ def values_for(chart, place):
         "wishes": ((place, chart[place]),), "parts": parts, "other_parts": parts_by([x // 2 for x in range(count)]),
         "lots": (lot, (), (0, count - 1) if count > 1 else (0,)), "upper": (tuple(range(len(parts))),),
         "tree": tuple((max(0, x - place - 1), x) for x in range(1, count)), "many": place + 1,
-        "told_row": (place,) * (place - 1),
+        "told_row": (place,) * (place - 1), "lengths": (1,) * (place // 2) + (place // 2 + 1,), "fit": backwards,
+        "clues": ((0, 1, place), (place, 2, chart[chart[place]])) if place > 0 else ((0, 1, chart[0]),),
+        "clue": (place, 3, 0),
     }
 
 
@@ -205,8 +249,14 @@ def values_for_forests(place):
     return {"many": place + 1, "lot": lot, "told_row": (0,) * (place + 1 - len(lot))}
 
 
+def values_for_clues(place):
+    """The same for the functions that are asked about clues for so many places."""
+    told = ((0, 1, place), (place, 2, 0)) if place > 0 else ((0, 7, 0),)
+    return {"many": place + 1, "clues": told, "clue": (place, 3, 0), "place": place, "number": 3}
+
+
 HANG_ON_PLACE = [
-    "place", "lot", "count", "power", "length", "steps", "wishes", "parts", "lots", "tree", "many", "told_row",
+    "place", "lot", "count", "power", "length", "steps", "wishes", "parts", "lots", "tree", "many", "told_row", "clues",
 ]
 
 
@@ -230,6 +280,8 @@ def some_calls(within=CHARTS):
                 values = values_for(chart, place)
                 if "many" in parameters and "lot" in parameters:
                     values = values_for_forests(place)
+                if "many" in parameters and "clues" in parameters:
+                    values = values_for_clues(place)
                 yield function, [values[parameter] for parameter in parameters]
 
 
@@ -308,6 +360,12 @@ class ErrorsOfParametersTest(unittest.TestCase):
             self.assert_error(likenesses.least_together, [chart, ((0, count),)], InvalidLots)
             self.assert_error(likenesses.are_kept, [chart, (tuple(range(count + 1)),)], InvalidParts)
             self.assert_error(likenesses.are_kept, [chart, (tuple(range(count - 1)),)], InvalidParts)
+            self.assert_error(fits.fit_number, [chart, chart, tuple(range(count + 1))], InvalidFit)
+            self.assert_error(fits.fit_image, [chart, chart, tuple(range(count - 1))], InvalidFit)
+            self.assert_error(fits.wished_count, [chart, ONE_RING, ((count, 0),)], InvalidWishes)
+            self.assert_error(fits.first_wished, [ONE_RING, chart, ((0, count),)], InvalidWishes)
+            self.assert_error(clues.meets, [chart, ((count, 0, 0),)], InvalidClues)
+            self.assert_error(clues.meets, [chart, ((0, 0, count),)], InvalidClues)
 
     def test_a_call_that_raised_leaves_no_trace(self):
         before = charts.step(EAR, 5), rings.rings(EAR)
@@ -316,7 +374,7 @@ class ErrorsOfParametersTest(unittest.TestCase):
         self.assertEqual((charts.step(EAR, 5), rings.rings(EAR)), before)
 
     def test_any_value_is_judged_without_an_error(self):
-        for value in ANY_VALUES + NOT_CHARTS + NOT_STRINGS + NOT_ROWS + NOT_CODES + NOT_PARTS + NOT_TREES:
+        for value in ANY_VALUES + NOT_CHARTS + NOT_STRINGS + NOT_ROWS + NOT_CODES + NOT_PARTS + NOT_TREES + NOT_CLUES:
             before = copy.deepcopy(value)
             for function, parameters in functions():
                 if "value" in parameters:
