@@ -65,7 +65,9 @@ class ListsTest(unittest.TestCase):
         # The ways of ten places that end in one that is its own next place.
         self.assertEqual([height_counts(10)[9], height_counts(10)[0]], [math.factorial(10), math.factorial(10)])
         self.assertEqual(period_counts(10)[-1], (30, math.factorial(10) // 30))
-        self.assertEqual([period for period, _ in period_counts(10)], [1, 2, 3, 4, 5, 6, 7, 8, 9, 10, 12, 14, 15, 20, 21, 30])
+        self.assertEqual(
+            [period for period, _ in period_counts(10)], [1, 2, 3, 4, 5, 6, 7, 8, 9, 10, 12, 14, 15, 20, 21, 30]
+        )
         self.assertEqual(depth_totals(10)[9], math.factorial(10))
         self.assertEqual([len(function(10)) for function in LISTS], [11, 11, 11, 10, 16, 10])
 
@@ -83,7 +85,9 @@ class LengthsTest(unittest.TestCase):
                 self.assertEqual(ring_length_count(count, lengths), found.count(lengths), (count, lengths))
 
     def test_edges(self):
-        self.assertEqual([ring_length_count(1, (1,)), ring_length_count(1, (2,)), ring_length_count(1, (1, 1))], [1, 0, 0])
+        self.assertEqual(
+            [ring_length_count(1, (1,)), ring_length_count(1, (2,)), ring_length_count(1, (1, 1))], [1, 0, 0]
+        )
         self.assertEqual([ring_length_count(10, (1,)), ring_length_count(10, (10,))], [10 ** 9, math.factorial(9)])
         self.assertEqual(ring_length_count(10, (1,) * 10), 1)
         self.assertEqual(ring_length_count(10, (2, 2, 2, 2, 2)), 945)
@@ -91,7 +95,9 @@ class LengthsTest(unittest.TestCase):
         self.assertEqual(ring_length_count(10, (1, 1, 2)), 10 * 9 * 8 * 7 // 4 * 4 * 10 ** 5)
 
     def test_lengths_that_are_too_many(self):
-        for lengths in ((11,), (1,) * 11, (1, 10), (5, 6), (NINETY_DIGITS,), (1, NINETY_DIGITS), (1,) * 3000, (3, 3, 3, 3)):
+        for lengths in (
+            (11,), (1,) * 11, (1, 10), (5, 6), (NINETY_DIGITS,), (1, NINETY_DIGITS), (1,) * 3000, (3, 3, 3, 3)
+        ):
             self.assertEqual(told_in_time(self, ring_length_count, 10, lengths), 0, lengths)
         self.assertEqual([ring_length_count(6, (7,)), ring_length_count(6, (1, 1, 1, 1, 1, 2))], [0, 0])
 

@@ -111,7 +111,9 @@ class MeetingTest(unittest.TestCase):
         self.assertEqual([nth_meeting(6, (), 0), nth_meeting(6, (), 6 ** 6 - 1)], [(0,) * 6, (5,) * 6])
         self.assertEqual([nth_meeting(6, (), 44790), nth_meeting(6, (), 6 ** 6)], [(5, 4, 3, 2, 1, 0), None])
         self.assertEqual([meeting_count(6, ((3, 0, 3),)), meeting_count(6, ((3, 0, 4),))], [6 ** 6, 0])
-        self.assertEqual([meeting_count(6, ((3, 1, 4),)), nth_meeting(6, ((3, 1, 4),), 6)], [6 ** 5, (0, 0, 0, 4, 1, 0)])
+        self.assertEqual(
+            [meeting_count(6, ((3, 1, 4),)), nth_meeting(6, ((3, 1, 4),), 6)], [6 ** 5, (0, 0, 0, 4, 1, 0)]
+        )
         self.assertEqual(nth_meeting(6, ((0, 60, 1), (1, 0, 2)), 0), None)
 
     def test_six_places_and_twenty_clues(self):
@@ -306,7 +308,9 @@ class SureTest(unittest.TestCase):
             self.assertEqual(raised_by(self, function, 0, (), *further)[0], InvalidCount)
             self.assertEqual(raised_by(self, function, 11, (), *further)[0], InvalidCount)
         for chart in CHARTS_OF_TEN:
-            self.assertIs(told_in_time(self, meets, chart, ((9, NINETY_DIGITS, walked(chart, 9, NINETY_DIGITS)),)), True)
+            self.assertIs(
+                told_in_time(self, meets, chart, ((9, NINETY_DIGITS, walked(chart, 9, NINETY_DIGITS)),)), True
+            )
 
 
 if __name__ == "__main__":

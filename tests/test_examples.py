@@ -7,12 +7,16 @@ import everynext.chart_counts
 import everynext.charts
 import everynext.clues
 import everynext.codes
+import everynext.console
 import everynext.errors
 import everynext.fits
+import everynext.joining
 import everynext.keeping
 import everynext.kept_lots
 import everynext.likenesses
+import everynext.live
 import everynext.marked_trees
+import everynext.paper_texts
 import everynext.rings
 import everynext.roots
 from tests.helpers import run_examples
@@ -145,12 +149,56 @@ PART_6_CLUES = """
 >>> sure_nexts(2, ((0, 1, 1), (0, 3, 0)))
 raises Clash(((0, 1, 1), (0, 3, 0)))
 """
+PART_7 = """
+>>> chart = chart_told("1200")
+>>> [first_common(chart, 3, 1), together_steps(chart, 3, 1), together_steps(chart, 3, 2), steps_to(chart, 1, 0), comers(chart, 3)]
+[(2, 0, 1), None, 1, 2, (3,)]
+>>> [together_counts(chart), together_parts(chart), both_come(chart, 3, 1)]
+[[0, 1], ((0,), (1,), (2, 3)), (0, 1, 2)]
+>>> [chart_text(hung(chart, 3, chart_told("10"), 0)), chart_text(stepped_in(chart, 3)), chart_text(less_place(chart, 0))]
+['120034', '12040', '100']
+>>> [chart_text(exchanged(chart, 0, 2)), chart_text(turned(chart)), chart_text(less_place(chart_told("0000"), 0))]
+['0210', '2010', '000']
+"""
+PART_8 = """
+>>> live = Live(chart)
+>>> [live.go(10 ** 20 + 1), live.walker, live.walk(4), live.rings(), live.depths(), live.sizes()]
+[None, 2, (2, 0, 1, 2, 0), [(0, 1, 2)], (0, 0, 0, 1), [(1, 3, 1), (1, 3, 1)]]
+>>> [live.step_in(3), live.send(4), live.leave(4), live.walker, live.would(("lead", 1, 1)), live.moments()]
+[4, None, None, 0, (1, 1, 2, 0), [(0, 1, 4), (2, 3)]]
+>>> [live.come(1), chart_text(live.chart), live.undo()]
+[5, '12001', ('come', 1)]
+>>> whole = WholeLive(chart)
+>>> whole.come(4)
+raises NotWhole(((0, 1, 2, 3), (4,)))
+>>> [whole.turn(), whole.lead(1, 3), chart_text(whole.chart), whole.would(("turn",))]
+[None, None, '2310', (1, 4, 0, 0)]
+"""
+PART_9_PAPERS = """
+>>> [paper_text(("alike", (1, 0, 0), (1, 0, 1), (1, 0, 2))), paper_told("r;120;2;201"), paper_told("k;1200;0,1,23")]
+['a;100;101;102', ('root', (1, 2, 0), 2, (2, 0, 1)), ('kept', (1, 2, 0, 0), ((0,), (1,), (2, 3)))]
+>>> paper_told("f;120;10;010")
+raises NotShown(2)
+>>> paper_told("a;120;13")
+raises InvalidText(7)
+>>> paper_told("k;100;0,2")
+raises InvalidText(8)
+>>> paper_told("k;2302;01,23")
+raises NotShown(3)
+"""
+PART_9_CONSOLE = """
+>>> console = Console()
+>>> console.execute("run chart a 1200; go 4; walker; stepin 3; rings; depths; sizes; paper")
+'ok; ok; 1; 4; 0-1-2; 0 0 0 2 1; 1/3/1 1/3/1 1/3/2; k;12040;0,13,24'
+>>> [console.execute("undo"), console.execute("exchange 0 2"), console.execute("moments"), console.execute("walk 3"), console.execute("journal")]
+['stepin 3', 'ok', '0=1 2', '1 2 1 2', 'chart a 1200; go 4; exchange 0 2']
+"""
 
 
 MODULES = (
     everynext.errors, everynext.charts, everynext.rings, everynext.codes, everynext.keeping, everynext.roots,
     everynext.along, everynext.kept_lots, everynext.likenesses, everynext.marked_trees, everynext.chart_counts,
-    everynext.fits, everynext.clues,
+    everynext.fits, everynext.clues, everynext.joining, everynext.live, everynext.paper_texts, everynext.console,
 )
 
 
@@ -160,7 +208,7 @@ class ExamplesTest(unittest.TestCase):
         for module in MODULES:
             told.update(vars(module))
         # The examples of later parts go on with these of earlier ones.
-        told.update(ear=(1, 2, 1, 2), two=(1, 0), twos=(1, 0, 3, 2), comb=(1, 2, 1, 2))
+        told.update(ear=(1, 2, 1, 2), two=(1, 0), twos=(1, 0, 3, 2), comb=(1, 2, 1, 2), chart=(1, 2, 0, 0))
         return told
 
     def test_part_1(self):
@@ -192,6 +240,18 @@ class ExamplesTest(unittest.TestCase):
 
     def test_part_6_clues(self):
         run_examples(self, PART_6_CLUES, self.names())
+
+    def test_part_7(self):
+        run_examples(self, PART_7, self.names())
+
+    def test_part_8(self):
+        run_examples(self, PART_8, self.names())
+
+    def test_part_9_papers(self):
+        run_examples(self, PART_9_PAPERS, self.names())
+
+    def test_part_9_console(self):
+        run_examples(self, PART_9_CONSOLE, self.names())
 
 
 if __name__ == "__main__":

@@ -23,8 +23,10 @@ KINDS = [chart for count in range(1, 5) for chart in one_of_each_kind(count)]
 PAIRS = list(itertools.product(SMALL_CHARTS, SMALL_CHARTS)) + [
     pair for chart in CHARTS_OF_FOUR for other in KINDS for pair in ((chart, other), (other, chart))
 ][::7] + [
-    ((1, 2, 3, 4, 0), (0, 1)), ((1, 0, 3, 2, 2), (1, 0, 1)), ((0, 0, 0, 1, 1), (0, 0, 1)), ((2, 3, 4, 0, 0), (1, 2, 0, 0)),
-    ((1, 2, 3, 4, 5, 0), (1, 2, 0)), ((1, 2, 3, 4, 5, 0), (1, 0, 0, 3)), (ONE, EACH_ITS_OWN), (ONE, LENGTHS_THAT_DIVIDE),
+    ((1, 2, 3, 4, 0), (0, 1)), ((1, 0, 3, 2, 2), (1, 0, 1)), ((0, 0, 0, 1, 1), (0, 0, 1)),
+    ((2, 3, 4, 0, 0), (1, 2, 0, 0)),
+    ((1, 2, 3, 4, 5, 0), (1, 2, 0)), ((1, 2, 3, 4, 5, 0), (1, 0, 0, 3)), (ONE, EACH_ITS_OWN),
+    (ONE, LENGTHS_THAT_DIVIDE),
     ((1, 0), LENGTHS_THAT_DIVIDE), ((1, 0, 0), ALIKE_RINGS_ALIKE_TREES), ((0, 0, 1), BUSHES), ((0, 0), STAR),
     (EACH_ITS_OWN, ONE), (ONE_RING, ONE), (LONG_WAY, (0, 0)), (STAR, (0, 0)), (PERIOD_THIRTY, (0, 1)),
 ]
@@ -161,7 +163,9 @@ class WishesTest(unittest.TestCase):
             for wishes in self.some_wishes(chart, other):
                 found = [fit for fit in plain_fits(chart, other) if all(fit[x] == y for x, y in wishes)]
                 self.assertEqual(wished_count(chart, other, wishes), len(found), (chart, other, wishes))
-                self.assertEqual(first_wished(chart, other, wishes), found[0] if found else None, (chart, other, wishes))
+                self.assertEqual(
+                    first_wished(chart, other, wishes), found[0] if found else None, (chart, other, wishes)
+                )
 
     def test_edges(self):
         self.assertEqual(wished_count(EACH_ITS_OWN, EACH_ITS_OWN, ((2, 7), (9, 9))), 10 ** 8)
@@ -233,7 +237,9 @@ class CoreTest(unittest.TestCase):
         return [lot for lot in kept if any(set(image) <= set(lot) for image in images)]
 
     def test_can_lay_and_core(self):
-        for chart in SMALL_CHARTS + CHARTS_OF_FOUR + [(1, 0, 3, 2, 2), (1, 2, 0, 4, 3), (0, 2, 1, 2, 3), (3, 3, 3, 4, 3)]:
+        for chart in SMALL_CHARTS + CHARTS_OF_FOUR + [
+            (1, 0, 3, 2, 2), (1, 2, 0, 4, 3), (0, 2, 1, 2, 3), (3, 3, 3, 4, 3)
+        ]:
             found = self.lots_to_lie_in(chart)
             self.assertEqual(core(chart), found[0], chart)
             for lot in all_lots(len(chart)):

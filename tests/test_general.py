@@ -9,12 +9,13 @@ import sys
 import unittest
 
 from everynext import (
-    along, chart_counts, charts, clues, codes, errors, fits, keeping, kept_lots, likenesses, marked_trees, rings, roots,
+    along, chart_counts, charts, clues, codes, console, errors, fits, joining, keeping, kept_lots, likenesses, live,
+    marked_trees, paper_texts, rings, roots,
 )
 from everynext.errors import (
     Clash, InvalidChart, InvalidClues, InvalidCode, InvalidCount, InvalidFit, InvalidLengths, InvalidLot, InvalidLots,
-    InvalidParts, InvalidPlace, InvalidRow, InvalidText, InvalidTree, InvalidWishes, NoFit, NoRoot, NotAlike, NotAlong,
-    NotForest, NotKeeping, NotKept, Refused, TooMany,
+    InvalidPaper, InvalidParts, InvalidPlace, InvalidRow, InvalidText, InvalidTree, InvalidWishes, NoFit, NoRoot,
+    NotAlike, NotAlong, NotForest, NotKeeping, NotKept, NotShown, Refused, TooMany,
 )
 from tests.helpers import (
     CHARTS, CHARTS_OF_TEN, EAR, LARGE_CHARTS, NINETY_DIGITS, NOT_CHARTS, NOT_CLUES, NOT_CLUES_OF_ONE, NOT_CODES,
@@ -106,6 +107,26 @@ INTERFACE = {
         "may_be_on_rings": ["many", "clues"], "depth_bounds": ["many", "clues", "place"],
         "spare_clues": ["many", "clues"], "tells_all": ["many", "clues"],
     },
+    joining: {
+        "steps_to": ["chart", "place", "other_place"], "comers": ["chart", "place"],
+        "both_come": ["chart", "place", "other_place"], "first_common": ["chart", "place", "other_place"],
+        "together_steps": ["chart", "place", "other_place"], "together_counts": ["chart"],
+        "together_parts": ["chart"], "beside": ["chart", "other_chart"],
+        "hung": ["chart", "place", "other_chart", "other_place"], "exchanged": ["chart", "place", "other_place"],
+        "stepped_in": ["chart", "place"], "less_place": ["chart", "place"], "turned": ["chart"],
+    },
+    paper_texts: {"is_paper": ["value"], "paper_text": ["value"], "paper_told": ["text"]},
+}
+# The classes, the parameters with which they are called, and the methods that each of them has itself.
+CLASSES = {
+    live.Live: (["chart"], {
+        "come": ["mark"], "leave": ["mark"], "lead": ["mark", "other_mark"], "exchange": ["mark", "other_mark"],
+        "step_in": ["mark"], "turn": [], "go": ["number"], "send": ["mark"], "walk": ["number"], "rings": [],
+        "depths": [], "sizes": [], "moments": [], "would": ["deed"], "undo": [], "begin": [], "keep": [], "drop": [],
+        "twin": [],
+    }),
+    live.WholeLive: (["chart"], {}),
+    console.Console: ([], {"execute": ["command"]}),
 }
 # For each parameter a right value (beside a chart of four places), the error, and wrong values.
 PARAMETERS = {
@@ -146,6 +167,8 @@ AS_LONG = (charts.behind, roots.root_number, along.hitch, along.along_number, al
 NOT_EMPTY = (likenesses.drawn_together, marked_trees.forest_by, marked_trees.forest_count, fits.can_lay)
 # Where a count may be above all bounds.
 WITHOUT_BOUND = (chart_counts.returning_count, chart_counts.nth_by_ring_places, chart_counts.nth_by_reached)
+# Where the other place must be another one than the right place.
+UNLIKE_PLACES = (joining.exchanged,)
 # The errors of points, which come behind those of all parameters.
 ERRORS_OF_POINTS = {
     codes.least_alike: [TooMany], codes.alike_row: [NotAlike], codes.nth_alike_row: [NotAlike], codes.kinds: [TooMany],
@@ -161,18 +184,21 @@ ERRORS_OF_POINTS = {
     clues.sure_nexts: [TooMany, Clash], clues.may_be: [TooMany, Clash], clues.sure_on_rings: [TooMany, Clash],
     clues.may_be_on_rings: [TooMany, Clash], clues.depth_bounds: [TooMany, Clash],
     clues.spare_clues: [TooMany, Clash], clues.tells_all: [TooMany, Clash],
+    joining.beside: [TooMany], joining.hung: [TooMany], joining.stepped_in: [TooMany],
+    joining.less_place: [InvalidPlace], paper_texts.paper_text: [InvalidPaper], paper_texts.paper_told: [NotShown],
 }
+PAPERS = (paper_texts.is_paper, paper_texts.paper_text, paper_texts.paper_told)
 JUDGES = [
     charts.is_chart, codes.is_code, codes.are_alike, codes.is_alike_row, keeping.is_keeping, roots.is_root,
     along.goes_along, along.goes_to, kept_lots.is_kept, likenesses.is_parts, likenesses.are_kept,
     marked_trees.is_tree, marked_trees.is_forest, fits.is_fit, fits.can_lay, fits.go_both_ways, clues.meets,
-    clues.is_bar, clues.is_sure, clues.tells_all,
+    clues.is_bar, clues.is_sure, clues.tells_all, paper_texts.is_paper,
 ]
 TELL_LISTS = [
     rings.rings, rings.pieces, codes.kinds, keeping.like_lots, roots.rooted, roots.fitting, roots.barred_lengths,
     kept_lots.kept_counts, kept_lots.kept_above, kept_lots.kept_below, likenesses.parts_above, likenesses.kept_parts,
     chart_counts.ring_place_counts, chart_counts.reached_counts, chart_counts.piece_counts, chart_counts.height_counts,
-    chart_counts.period_counts, chart_counts.depth_totals, fits.all_fits, clues.spare_clues,
+    chart_counts.period_counts, chart_counts.depth_totals, fits.all_fits, clues.spare_clues, joining.together_counts,
 ]
 ANY_VALUES = [
     0, 1, -1, NINETY_DIGITS, -NINETY_DIGITS, True, False, None, "", "0", "x" * 20000, (), [], (0,), [0], EAR, list(EAR),
@@ -218,6 +244,8 @@ def wrong_values(function, parameter):
         return wrongs + [()]
     if parameter == "count" and function in WITHOUT_BOUND:
         return NOT_NUMBERS + [0]
+    if parameter == "other_place" and function in UNLIKE_PLACES:
+        return wrongs + [PARAMETERS["place"][0]]
     return wrongs
 
 
@@ -255,6 +283,15 @@ def values_for_clues(place):
     return {"many": place + 1, "clues": told, "clue": (place, 3, 0), "place": place, "number": 3}
 
 
+def values_for_papers(chart, place):
+    """The same for the functions of papers: a paper and its text, unless the root is none."""
+    text = charts.chart_text(chart)
+    if place % 2 == 0:
+        return {"value": ("fit", chart, chart, plain_step(chart, place)), "text": f"r;{text};{place + 1};{text}"}
+    straight = "0123456789"[:len(chart)]
+    return {"value": ("kept", chart, joining.together_parts(chart)), "text": f"a;{text};{text};{straight}"}
+
+
 HANG_ON_PLACE = [
     "place", "lot", "count", "power", "length", "steps", "wishes", "parts", "lots", "tree", "many", "told_row", "clues",
 ]
@@ -274,10 +311,13 @@ def spoil(value):
 def some_calls(within=CHARTS):
     """Calls of all functions with each chart, each place and some numbers."""
     for function, parameters in functions():
-        with_charts = parameters[0] in ("chart", "value", "code", "tree")
+        with_charts = parameters[0] in ("chart", "value", "code", "tree") or function is paper_texts.paper_told
+        with_places = set(parameters) & set(HANG_ON_PLACE) or function in PAPERS
         for chart in within if with_charts else [ONE_RING]:
-            for place in range(len(chart)) if set(parameters) & set(HANG_ON_PLACE) else [0]:
+            for place in range(len(chart)) if with_places else [0]:
                 values = values_for(chart, place)
+                if function in PAPERS:
+                    values = values_for_papers(chart, place)
                 if "many" in parameters and "lot" in parameters:
                     values = values_for_forests(place)
                 if "many" in parameters and "clues" in parameters:
@@ -292,6 +332,29 @@ class InterfaceTest(unittest.TestCase):
                 function = getattr(module, name)
                 self.assertEqual(list(inspect.signature(function).parameters), parameters, name)
                 self.assertEqual(function.__module__, module.__name__, name)
+
+    def test_classes_and_methods(self):
+        for cls, (parameters, methods) in CLASSES.items():
+            self.assertEqual(list(inspect.signature(cls).parameters), parameters, cls)
+            for name, wanted in methods.items():
+                method = vars(cls)[name]
+                self.assertEqual(list(inspect.signature(method).parameters)[1:], wanted, (cls, name))
+        self.assertEqual((live.Live.__module__, live.WholeLive.__module__), ("everynext.live",) * 2)
+        self.assertEqual(console.Console.__module__, "everynext.console")
+        self.assertEqual(live.WholeLive.__bases__, (live.Live,))
+        self.assertIn("__eq__", vars(live.Live))
+
+    def test_replay_and_its_parameters(self):
+        found = inspect.signature(live.replay).parameters
+        self.assertEqual(list(found), ["chart", "deeds", "whole"])
+        self.assertEqual((found["whole"].kind, found["whole"].default), (inspect.Parameter.KEYWORD_ONLY, False))
+        self.assertEqual(live.replay.__module__, "everynext.live")
+
+    def test_fields_of_live_charts(self):
+        for cls in (live.Live, live.WholeLive):
+            told = cls(EAR)
+            fields = [told.chart, told.start, told.marks, told.next_mark, told.walker, told.deeds, told.depth]
+            self.assertEqual(fields, [EAR, EAR, (0, 1, 2, 3), 4, 0, [], 0])
 
     def test_classes_are_defined_in_errors(self):
         for value in vars(errors).values():
@@ -377,7 +440,7 @@ class ErrorsOfParametersTest(unittest.TestCase):
         for value in ANY_VALUES + NOT_CHARTS + NOT_STRINGS + NOT_ROWS + NOT_CODES + NOT_PARTS + NOT_TREES + NOT_CLUES:
             before = copy.deepcopy(value)
             for function, parameters in functions():
-                if "value" in parameters:
+                if "value" in parameters and function in JUDGES:
                     told = function(*right_values(parameters[:-1]), value)
                     self.assertIs(type(told), bool, (function, value))
                     self.assertEqual(repr(value), repr(before), function)
