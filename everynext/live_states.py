@@ -1,7 +1,7 @@
 """What a live chart is at one moment, and what each deed makes of it."""
 
 from everynext.charts import after, with_next
-from everynext.checks import check_number, is_integer
+from everynext.checks import is_integer
 from everynext.codes import chart_by_nest, chart_code
 from everynext.errors import InvalidPlace, Refused
 from everynext.joining import check_room, exchanged, less_place, stepped_in, turned
@@ -106,7 +106,6 @@ def turn(state):
 
 
 def go(state, number):
-    check_number(number)
     place = after(state.chart, state.marks.index(state.walker), number)
     return State(state.chart, state.marks, state.next_mark, state.marks[place])
 

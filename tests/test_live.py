@@ -148,6 +148,13 @@ class DeedsTest(unittest.TestCase):
         self.assert_refused(live, (InvalidPlace, {}), "come", 3)
         self.assertEqual([live.come(4), live.chart, live.marks], [4, (0, 0, 2, 3), (0, 1, 2, 4)])
 
+    def test_true_is_no_mark(self):
+        # The next mark is 1, or 1 is there, but True is not 1.
+        for chart in (ONE, (1, 0), STAR):
+            for wrong in (True, False):
+                for name in ("come", *DEEDS_OF_MARKS):
+                    self.assert_refused(Live(chart), (InvalidPlace, {}), name, wrong)
+
     def test_ten_places(self):
         live = Live((0,) * 9)
         self.assertEqual([live.step_in(8), live.chart], [9, (0,) * 8 + (9, 0)])
