@@ -8,7 +8,7 @@ from everynext.errors import (
     TooMany,
 )
 from tests.helpers import (
-    CHARTS_OF_TEN, LARGE_CHARTS, NINETY_DIGITS, NOT_CHARTS, NOT_STRINGS, deep, raised_by, told_in_time,
+    CHARTS_OF_TEN, LARGE_CHARTS, NINETY_DIGITS, NOT_CHARTS, NOT_STRINGS, deep, raised_by, state_of, told_in_time,
 )
 from tests.plain_console import PlainConsole, drawn_command
 from tests.plain_lives import Draw
@@ -343,6 +343,15 @@ class RunsTest(unittest.TestCase):
                 console.execute(command)
             self.assertEqual(all_told(console), before, command)
 
+    def assert_alike(self, console, plain, command):
+        """That both answer the same, or raise the same error."""
+        try:
+            wanted = plain.execute(command)
+        except ValueError as error:
+            self.assertEqual(raised_by(self, console.execute, command), state_of(error), command)
+        else:
+            self.assertEqual(console.execute(command), wanted, command)
+
     def test_drawn_commands(self):
         names = ["a", "b", "c", "longname"]
         texts = ["1200", "0", "10", "01", "120010", "0000000000", "1234567890", "13", "x", "10;", "3333", "0123"]
@@ -353,12 +362,7 @@ class RunsTest(unittest.TestCase):
                 count = 1 + draw.below(5) if draw.below(3) == 0 else 0
                 commands = [drawn_command(draw, names, texts) for _ in range(max(count, 1))]
                 command = "run " * (count > 0) + "; ".join(commands)
-                try:
-                    wanted = plain.execute(command)
-                except ValueError as error:
-                    self.assertEqual(raised_by(self, console.execute, command), (type(error), vars(error)), command)
-                else:
-                    self.assertEqual(console.execute(command), wanted, command)
+                self.assert_alike(console, plain, command)
 
     def test_drawn_commands_that_are_mostly_let(self):
         for seed, chart in enumerate(LARGE_CHARTS):
@@ -372,12 +376,7 @@ class RunsTest(unittest.TestCase):
                 if command.startswith(("chart", "whole", "use", "forget")):
                     continue
                 done += 1
-                try:
-                    wanted = plain.execute(command)
-                except ValueError as error:
-                    self.assertEqual(raised_by(self, console.execute, command), (type(error), vars(error)), command)
-                else:
-                    self.assertEqual(console.execute(command), wanted, command)
+                self.assert_alike(console, plain, command)
 
     def test_runs_of_64_commands_in_time(self):
         console = Console()

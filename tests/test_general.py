@@ -505,8 +505,22 @@ class ResultsTest(unittest.TestCase):
         self.assertEqual(told, {told_results()})
 
 
+def told_by_consoles():
+    """What a console tells of each chart behind some deeds."""
+    told = []
+    for chart in CHARTS:
+        commands = console.Console()
+        text = charts.chart_text(chart)
+        for command in (
+            f"chart a {text}", "stepin 0", "go 7", "turn", "leave 1", "lead 0 0", f"whole b {text}", "use a", "rings",
+            "sizes", "moments", "walk 9", "paper", "same b", "journal",
+        ):
+            told.append(outcome(commands.execute, [command]))
+    return told
+
+
 def told_results():
-    return repr([outcome(function, values) for function, values in some_calls()])
+    return repr([outcome(function, values) for function, values in some_calls()] + told_by_consoles())
 
 
 if __name__ == "__main__":

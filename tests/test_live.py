@@ -320,24 +320,26 @@ class QuestionsTest(unittest.TestCase):
             self.assertEqual({type(row) for row in told}, {tuple})
 
     def test_sixty_deeds_in_time(self):
-        for chart in CHARTS_OF_TEN:
-            live = Live(chart)
-            for number in range(30):
-                goal = live.marks[(number + 1) % 10]
-                name = "go" if live.chart[number % 10] == live.marks.index(goal) else "lead"
-                values = (NINETY_DIGITS,) if name == "go" else (live.marks[number % 10], goal)
-                told_in_time(self, getattr(live, name), *values)
-                told_in_time(self, live.leave if number % 2 else live.send, live.marks[number % 10])
-                if len(live.marks) < 10:
-                    told_in_time(self, live.come if number % 3 else live.step_in, live.marks[-1])
+        for seed, chart in enumerate(CHARTS_OF_TEN):
+            draw, plain, live = Draw(seed + 3000), PlainLive(chart), Live(chart)
             while len(live.deeds) < 60:
-                live.go(1)
+                deed = drawn_deed(draw, plain)
+                if plain_error(plain, False, deed):
+                    continue
+                told_in_time(self, live.would, deed)
+                told_in_time(self, getattr(live, deed[0]), *deed[1:])
+                plainly_deed(plain, *deed)
+                if len(live.deeds) % 5 == 0:
+                    told_in_time(self, live.begin)
+            self.assertEqual(live.depth, 12)
             for tell in (
-                live.rings, live.depths, live.sizes, live.moments, live.twin, lambda: live == live.twin(), live.undo,
-                lambda: live.walk(1000), lambda: live.would(("turn",)) if 3 in map(len, live.rings()) else None,
+                live.rings, live.depths, live.sizes, live.moments, live.twin, lambda: live == live.twin(),
+                lambda: live.walk(1000), lambda: live.would(("go", NINETY_DIGITS)),
                 lambda: [live.chart, live.start, live.marks, live.next_mark, live.walker, live.deeds, live.depth],
+                live.keep, live.undo, live.drop,
             ):
                 told_in_time(self, tell)
+            self.assertEqual((len(live.deeds), live.depth), (55, 10))
 
 
 if __name__ == "__main__":
